@@ -1,0 +1,1 @@
+"""Prooffruit: programs that grounds of whole-number sayings yield."""

@@ -1,0 +1,64 @@
+import ast
+import importlib
+import inspect
+import pathlib
+import unittest
+
+FOLDER = pathlib.Path(__file__).resolve().parent.parent / "prooffruit"
+
+INTERFACE = {
+    "terms": {"is_word": ["thing"], "is_term": ["thing"], "worth": ["term", "numbers"]},
+    "sayings": {
+        "is_saying": ["thing"], "is_body": ["thing"], "names_in": ["thing"], "put_in": ["body", "term"],
+        "taken": ["saying", "name"], "put_for": ["saying", "name", "term"],
+    },
+    "grounds": {"is_plain": ["ground"], "grounds_of": ["ground"]},
+}
+
+
+def files():
+    return sorted(FOLDER.rglob("*.py"))
+
+
+class Interface(unittest.TestCase):
+    def test_functions_are_defined_in_their_files(self):
+        for file, functions in INTERFACE.items():
+            module = importlib.import_module("prooffruit." + file)
+            for word, arguments in functions.items():
+                told = getattr(module, word)
+                self.assertTrue(inspect.isfunction(told), word)
+                self.assertEqual(told.__module__, "prooffruit." + file)
+                self.assertEqual(list(inspect.signature(told).parameters), arguments, word)
+
+
+class Files(unittest.TestCase):
+    def test_nothing_but_python_files(self):
+        for path in FOLDER.rglob("*"):
+            if path.is_file() and "__pycache__" not in path.parts:
+                self.assertEqual(path.suffix, ".py", path)
+
+    def test_sizes_and_signs(self):
+        for path in files():
+            text = path.read_bytes().decode("ascii")
+            self.assertTrue(all(sign == "\n" or " " <= sign <= "~" for sign in text), path)
+            lines = text.split("\n")
+            self.assertLess(len(lines), 400, path)
+            self.assertLessEqual(max(len(line) for line in lines), 120, path)
+
+    def test_functions_are_short(self):
+        for path in files():
+            for node in ast.walk(ast.parse(path.read_text())):
+                if isinstance(node, ast.FunctionDef):
+                    self.assertLessEqual(node.end_lineno - node.lineno + 1, 40, (path, node.name))
+
+    def test_no_outside_package_is_imported(self):
+        for path in files():
+            for node in ast.walk(ast.parse(path.read_text())):
+                self.assertNotIsInstance(node, ast.Import, path)
+                if isinstance(node, ast.ImportFrom):
+                    own = node.module.startswith("prooffruit.")
+                    self.assertTrue(own or node.module in ("heapq", "math", "itertools", "collections"), path)
+
+
+if __name__ == "__main__":
+    unittest.main()
