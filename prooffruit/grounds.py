@@ -1,35 +1,67 @@
-"""The grounds that stand in a ground, and which ground is plain."""
+"""The parts of a ground, the grounds that stand in one, and which ground is plain."""
 
-# Where in a tuple of each word its grounds stand, in their order.
-GROUNDS_AT = {
-    "given": (),
-    "lets": (3,),
-    "uses": (1, 2),
-    "both": (1, 2),
-    "first": (1,),
-    "second": (1,),
-    "this": (1,),
-    "that": (2,),
-    "cases": (1, 3, 5),
-    "for": (2,),
-    "at": (1,),
-    "such": (3,),
-    "open": (1, 4),
-    "absurd": (1,),
-    "equal": (),
-    "put": (1, 3),
-    "reckoned": (),
-    "sums": (),
-    "down": (1,),
-    "never": (1,),
-    "climb": (2, 5),
-    "twice": (1,),
+# What each part of a tuple of each word is, in their order; of sums it hangs on its number (SUMS).
+PARTS = {
+    "given": ("label", "saying"),
+    "lets": ("label", "saying", "ground"),
+    "uses": ("ground", "ground"),
+    "both": ("ground", "ground"),
+    "first": ("ground",),
+    "second": ("ground",),
+    "this": ("ground", "saying"),
+    "that": ("saying", "ground"),
+    "cases": ("ground", "label", "ground", "label", "ground"),
+    "for": ("name", "ground"),
+    "at": ("ground", "term"),
+    "such": ("body", "term", "ground"),
+    "open": ("ground", "name", "label", "ground"),
+    "absurd": ("ground", "saying"),
+    "equal": ("term",),
+    "put": ("ground", "body", "ground"),
+    "reckoned": ("term", "term"),
+    "down": ("ground",),
+    "never": ("ground",),
+    "climb": ("body", "ground", "name", "label", "ground", "term"),
+    "twice": ("ground",),
 }
+
+# What each part of a sums of number 0, 1, 2, 3 is.
+SUMS = (("which", "term"), ("which", "term", "term"), ("which", "term"), ("which", "term", "term"))
+
+# For a word and the place of a ground in its tuple: the places of the names and labels that are closed in that ground.
+CLOSED_AT = {
+    ("lets", 3): (1,),
+    ("cases", 3): (2,),
+    ("cases", 5): (4,),
+    ("for", 2): (1,),
+    ("open", 4): (2, 3),
+    ("climb", 5): (3, 4),
+}
+
+
+def parts_of(ground):
+    """What each part of a ground is, in their order."""
+    if ground[0] == "sums":
+        return SUMS[ground[1]]
+    return PARTS[ground[0]]
 
 
 def grounds_of(ground):
     """A list of the grounds of a ground, in their order."""
-    return [ground[at] for at in GROUNDS_AT[ground[0]]]
+    return [part for part, what in zip(ground[1:], parts_of(ground)) if what == "ground"]
+
+
+def closed_words(ground):
+    """For each ground of a ground, in their order: the name and the label that are closed in it, or None for either."""
+    parts = parts_of(ground)
+    rows = []
+    for at, what in enumerate(parts, start=1):
+        if what == "ground":
+            closed = {"name": None, "label": None}
+            for place in CLOSED_AT.get((ground[0], at), ()):
+                closed[parts[place - 1]] = ground[place]
+            rows.append((closed["name"], closed["label"]))
+    return rows
 
 
 def is_plain(ground):

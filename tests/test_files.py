@@ -13,7 +13,21 @@ INTERFACE = {
         "taken": ["saying", "name"], "put_for": ["saying", "name", "term"],
     },
     "grounds": {"is_plain": ["ground"], "grounds_of": ["ground"]},
+    "judge": {"grounded": ["thing"]},
+    "kinds": {"is_kind": ["thing"], "kind_of": ["saying"]},
+    "programs": {"judged": ["thing"]},
+    "runs": {"is_worth": ["kind", "thing"], "run": ["program", "numbers", "limit"]},
+    "yields": {"yielded": ["ground"], "least": ["kind"]},
+    "sight": {"is_flat": ["saying"], "is_seen": ["saying"], "is_true": ["saying"], "bears": ["saying", "thing"]},
+    "settled": {"settled": ["saying"], "shown_by": ["saying", "worth"], "sought": ["saying", "most"]},
+    "putting": {
+        "open_names": ["ground"], "alike": ["one", "other"], "named": ["ground", "name", "term"],
+        "supplied": ["ground", "label", "other"],
+    },
 }
+
+# What is handed in by name alone, and what it is if nothing is said.
+BY_NAME_ALONE = {("runs", "run"): {"limit": 20000}, ("settled", "sought"): {"most": 10}}
 
 
 def files():
@@ -29,6 +43,13 @@ class Interface(unittest.TestCase):
                 self.assertTrue(inspect.isfunction(told), word)
                 self.assertEqual(told.__module__, "prooffruit." + file)
                 self.assertEqual(list(inspect.signature(told).parameters), arguments, word)
+
+    def test_what_is_handed_in_by_name_alone(self):
+        for file, functions in INTERFACE.items():
+            for word in functions:
+                rows = inspect.signature(getattr(importlib.import_module("prooffruit." + file), word)).parameters
+                alone = {row.name: row.default for row in rows.values() if row.kind == row.KEYWORD_ONLY}
+                self.assertEqual(alone, BY_NAME_ALONE.get((file, word), {}), word)
 
 
 class Files(unittest.TestCase):
