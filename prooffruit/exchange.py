@@ -58,8 +58,8 @@ class Exchange:
         if what not in self.shunned or part not in self.shunned[what]:
             return part
         other = part
-        # Each word that was tried is used, or was told ahead.
-        while other == part or other in self.used:
+        # What is shunned is used; and of all that was tried each word is used, or was told ahead.
+        while other in self.used:
             other = word_at(self.tried)
             self.tried += 1
         return other

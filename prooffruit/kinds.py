@@ -12,7 +12,7 @@ PAIRED = ("pair", "from", "either")
 
 def has_form(piece):
     """Whether anything has a word of a kind and as many parts as it takes, none of them none but in an either."""
-    if not isinstance(piece, tuple) or len(piece) == 0:
+    if not isinstance(piece, tuple):
         return False
     if len(piece) == 1:
         return piece in (NONE, NUMBER)

@@ -13,8 +13,8 @@ def open_names(ground):
 
 
 def is_like_leaf(piece, other, closed, closed_other):
-    """Whether a num, name or bound is like another one, where dicts tell which closing closes a name in each."""
-    if piece[0] != "name" or other[0] != "name":
+    """Whether a num, name or bound is like another one of its word; dicts tell which closing closes a name in each."""
+    if piece[0] != "name":
         return piece == other
     return closed.get(piece[1], piece[1]) == closed_other.get(other[1], other[1])
 
@@ -55,7 +55,7 @@ class Closings:
 
 def is_like_piece(piece, other, closings):
     """Whether a piece is like another one, but for their grounds and for the words that they close."""
-    if piece[0] != other[0] or len(piece) != len(other):
+    if piece[0] != other[0]:
         return False
     if piece[0] == "sums" and piece[1] != other[1]:
         return False

@@ -5,6 +5,8 @@ from prooffruit.grounds import parts_of
 from prooffruit.judge import grounded
 from prooffruit.putting import alike, named, open_names, supplied
 from prooffruit.sayings import names_in, put_for
+from prooffruit.terms import is_word
+from prooffruit.wording import word_at
 from tests.making import LABELS, NAMES, Maker, swapped
 from tests.oracle import nameless
 from tests.samples import B0, B1, NO, NOUGHT, ONE, TRUE, X, Y, bush
@@ -191,6 +193,15 @@ class Alike(unittest.TestCase):
 
     def test_by_name(self):
         self.assertIs(alike(other=equal("x"), one=equal("x")), True)
+
+
+class Words(unittest.TestCase):
+    def test_each_another_one(self):
+        words = [word_at(number) for number in range(20000)]
+        self.assertEqual(words[:26], list("abcdefghijklmnopqrstuvwxyz"))
+        self.assertEqual(words[26:29] + words[701:704], ["aa", "ab", "ac", "zz", "aaa", "aab"])
+        self.assertEqual(len(set(words)), 20000)
+        self.assertTrue(all(is_word(word) for word in words))
 
 
 class Putting(unittest.TestCase):

@@ -142,6 +142,9 @@ class ShownBy(Grounds):
         self.check_shown(("and", SOME, ("if", FALSE, SOME)), (2, 7))
         self.check_shown(("or", ("if", FALSE, ("if", NO, SOME)), NO), ("this", 7))
         self.check_shown(("if", TRUE, ("if", FALSE, SOME)), 7)
+        # What stands behind isn't reckoned: not even the first of another if.
+        self.check_shown(("if", FALSE, ("if", MANY, SOME)), 7)
+        self.check_shown(("if", NO, ("some", ("if", ("same", ("times", B0, GREATEST), NOUGHT), ("or", NO, SOME)))), (3, ("that", 9)))
 
     def test_great_numbers(self):
         for number in (GREAT - 1, GREAT - 2, 10 ** 59, 12345678901234567890):
