@@ -2,6 +2,7 @@
 
 import random
 
+from prooffruit.judge import grounded
 from prooffruit.sayings import names_in, put_in, taken
 from tests.samples import B0, NO, NOUGHT, ONE
 
@@ -179,12 +180,10 @@ def has_bound(piece):
 
 
 def said(ground):
-    from prooffruit.judge import grounded
     return grounded(ground)[0]
 
 
 def opens(ground):
-    from prooffruit.judge import grounded
     return dict(grounded(ground)[1])
 
 
@@ -223,7 +222,8 @@ def spoiled(chance, thing, others):
             new = chance.choice(others)
         elif pick == 2 and inner:
             at = chance.randrange(len(inner))
-            new = inner[:at] + (chance.choice(["u", "x", "y", 1, 0, 3, None, NO, B0, "both", "lets", NOUGHT]),) + inner[at + 1:]
+            new = inner[:at] + (chance.choice(["u", "x", "y", 1, 0, 3, None, NO, B0, "both", "lets", NOUGHT]),
+                                ) + inner[at + 1:]
         elif pick == 3:
             new = part_at(thing, chance.choice(places_in(thing)))
         else:
@@ -250,7 +250,7 @@ def ground_places(ground, parts_of):
 
 def swapped(chance, thing, other, parts_of):
     """A thing in which some part is exchanged for one of its own sort, of itself or of another one."""
-    place, what = chance.choice(ground_places(thing, parts_of))
+    place, what = chance.choice([row for row in ground_places(thing, parts_of) if row[1] != "which"])
     if what in ("name", "label") and chance.random() < 0.7:
         return with_part(thing, place, chance.choice(NAMES if what == "name" else LABELS))
     source = chance.choice([thing, other])

@@ -1,4 +1,3 @@
-import random
 import unittest
 
 from prooffruit.errors import GroundError, NoGround
@@ -7,7 +6,7 @@ from prooffruit.judge import grounded
 from prooffruit.sayings import is_saying
 from tests import oracle
 from tests.making import Maker, spoiled, swapped
-from tests.samples import B0, B1, GREAT, NO, NOUGHT, ODD, ONE, TRUE, X, Y, bush, nested, shared, slope, tower
+from tests.samples import B0, B1, GREAT, NO, NOUGHT, ODD, ONE, TRUE, X, Y, bush, nested, shared, tower
 
 A = ("same", X, ONE)
 B = ("same", Y, NOUGHT)
@@ -107,7 +106,8 @@ class Closed(unittest.TestCase):
         self.assertEqual(grounded(("lets", "v", A, both))[1], (("u", A),))
 
     def test_cases(self):
-        ground = ("cases", given("p", ("or", A, B)), "u", ("absurd", ("uses", given("n", ("if", A, NO)), given("u", A)), C),
+        ground = ("cases", given("p", ("or", A, B)), "u", ("absurd",
+                                                           ("uses", given("n", ("if", A, NO)), given("u", A)), C),
                   "v", ("absurd", ("uses", given("m", ("if", B, NO)), given("v", B)), C))
         self.assertEqual(grounded(ground), (C, (("m", ("if", B, NO)), ("n", ("if", A, NO)), ("p", ("or", A, B)))))
 
@@ -237,7 +237,8 @@ class Names(unittest.TestCase):
         turn = ("absurd", given("n", NO), at_next)
         start = given("p", ("same", NOUGHT, Y))
         self.assertEqual(told(("climb", BODY, start, "x", "u", turn, X)), None)
-        self.assertEqual(told(("climb", BODY, start, "x", "u", ("second", ("both", given("u", ("same", X, Y)), turn)), X)),
+        self.assertEqual(told(("climb", BODY, start, "x", "u", ("second", ("both", given("u", ("same", X, Y)), turn)),
+                               X)),
                          None)
         self.assertEqual(told(("climb", BODY, start, "x", "u", ("second", ("both", given("v", A), turn)), X)),
                          ((), "name"))
@@ -275,7 +276,8 @@ class SayingsDue(unittest.TestCase):
             self.refused(("at", given("u", saying), X))
 
     def test_such(self):
-        for body, term, saying in [(BODY, Y, ("same", X, Y)), (BODY, X, ("same", Y, X)), (("same", B0, B0), X, BODY[:1] + (X, Y)),
+        for body, term, saying in [(BODY, Y, ("same", X, Y)), (BODY, X, ("same", Y, X)),
+                                   (("same", B0, B0), X, BODY[:1] + (X, Y)),
                                    (("all", ("same", B0, B1)), X, ("all", ("same", X, B0)))]:
             self.refused(("such", body, term, given("u", saying)))
 
@@ -289,7 +291,8 @@ class SayingsDue(unittest.TestCase):
 
     def test_put(self):
         p, q = given("p", ("same", X, Z)), given("q", ("same", X, Y))
-        for ground in [("put", p, BODY, given("q", ("same", Z, Y))), ("put", q, BODY, p), ("put", given("p", NO), BODY, q),
+        for ground in [("put", p, BODY, given("q", ("same", Z, Y))), ("put", q, BODY, p),
+                       ("put", given("p", NO), BODY, q),
                        ("put", given("p", ("if", A, A)), A, given("q", A)), ("put", p, ("same", Z, B0), q)]:
             self.refused(ground)
 
@@ -313,12 +316,14 @@ class SayingsDue(unittest.TestCase):
     def test_climb(self):
         p, q = given("p", ("same", NOUGHT, Y)), ("absurd", given("n", NO), ("same", ("next", X), Y))
         for ground in [("climb", BODY, q, "x", "u", q, X), ("climb", BODY, p, "x", "u", p, X),
-                       ("climb", BODY, p, "z", "u", q, X), ("climb", BODY, given("p", ("same", ONE, Y)), "x", "u", q, X),
+                       ("climb", BODY, p, "z", "u", q, X), ("climb", BODY, given("p", ("same", ONE, Y)), "x", "u", q,
+                                                            X),
                        ("climb", BODY, p, "x", "u", ("absurd", given("n", NO), ("same", X, Y)), X)]:
             self.refused(ground)
 
     def test_twice(self):
-        for saying in [A, NO, ("if", A, NO), ("if", ("if", A, NO), A), ("if", ("if", A, B), NO), ("if", ("and", A, NO), NO),
+        for saying in [A, NO, ("if", A, NO), ("if", ("if", A, NO), A), ("if", ("if", A, B), NO),
+                       ("if", ("and", A, NO), NO),
                        ("and", ("if", A, NO), NO), ("if", A, ("if", A, NO))]:
             self.refused(("twice", given("u", saying)))
 
@@ -334,7 +339,8 @@ class Numbers(unittest.TestCase):
             self.assertEqual(told(("reckoned", t, s)), ((), "number"))
 
     def test_with_names(self):
-        for t, s in [(X, X), (NOUGHT, ("times", X, NOUGHT)), (("times", NOUGHT, X), NOUGHT), (("plus", X, Y), ("plus", X, Y))]:
+        for t, s in [(X, X), (NOUGHT, ("times", X, NOUGHT)), (("times", NOUGHT, X), NOUGHT),
+                     (("plus", X, Y), ("plus", X, Y))]:
             self.assertEqual(told(("reckoned", t, s)), ((), "number"))
 
     def test_too_great(self):
@@ -352,7 +358,8 @@ MALFORMED = [
     ("lets", "u", A), ("lets", "u", A, ("equal", X), NO), ("lets", "abcdefghi", A, ("equal", X)),
     ("lets", "u", BODY, ("equal", X)), ("lets", "u", X, ("equal", X)), ("lets", ("equal", X), "u", A),
     ("uses", ("equal", X)), ("uses", ("equal", X), ("equal", X), ("equal", X)),
-    ("both", ("equal", X)), ("both", ("equal", X), ("equal", X), A), ("first",), ("first", ("equal", X), A), ("second",),
+    ("both", ("equal", X)), ("both", ("equal", X), ("equal", X), A), ("first",), ("first", ("equal", X), A),
+    ("second",),
     ("second", ("equal", X), ("equal", X)), ("this", ("equal", X)), ("this", ("equal", X), BODY),
     ("this", NO, ("equal", X)), ("this", ("equal", X), NO, NO), ("that", ("equal", X)), ("that", BODY, ("equal", X)),
     ("that", ("equal", X), NO), ("cases", given("p", ("or", A, A)), "u", given("u", A), "v"),
@@ -360,26 +367,31 @@ MALFORMED = [
     ("cases", given("p", ("or", A, A)), "u1", given("u", A), "v", given("u", A)),
     ("cases", given("p", ("or", A, A)), given("u", A), given("u", A)),
     ("for", "x"), ("for", "", ("equal", X)), ("for", X, ("equal", X)), ("for", "x", ("equal", X), ("equal", X)),
-    ("for", "abcdefghi", ("equal", X)), ("at", given("u", C)), ("at", given("u", C), B0), ("at", given("u", C), ("num", -1)),
+    ("for", "abcdefghi", ("equal", X)), ("at", given("u", C)), ("at", given("u", C), B0),
+    ("at", given("u", C), ("num", -1)),
     ("at", given("u", C), NO), ("at", given("u", C), ("num", GREAT)), ("at", given("u", C), "x"),
     ("such", BODY, X), ("such", ("same", B1, Y), X, given("u", A)), ("such", X, X, given("u", A)),
     ("such", BODY, B0, given("u", A)), ("such", BODY, X, given("u", A), A), ("such", BODY, A, given("u", A)),
     ("open", given("p", ("some", A)), "x", "u"), ("open", given("p", ("some", A)), "x", ("equal", X)),
-    ("open", given("p", ("some", A)), "xX", "u", ("equal", X)), ("open", given("p", ("some", A)), "x", None, ("equal", X)),
+    ("open", given("p", ("some", A)), "xX", "u", ("equal", X)), ("open", given("p", ("some", A)), "x", None,
+        ("equal", X)),
     ("absurd", given("u", NO)), ("absurd", given("u", NO), BODY), ("absurd", A, given("u", NO)),
     ("equal",), ("equal", X, X), ("equal", B0), ("equal", NO), ("equal", None), ("equal", ["num", 0]),
-    ("put", ("equal", X), BODY), ("put", ("equal", X), ("same", B1, B0), ("equal", X)), ("put", ("equal", X), X, ("equal", X)),
+    ("put", ("equal", X), BODY), ("put", ("equal", X), ("same", B1, B0), ("equal", X)),
+    ("put", ("equal", X), X, ("equal", X)),
     ("reckoned", ONE), ("reckoned", ONE, B0), ("reckoned", A, ONE), ("reckoned", ONE, ONE, ONE), ("reckoned", 1, 1),
     ("sums",), ("sums", 0), ("sums", 0, X, Y), ("sums", 2, X, Y), ("sums", 1, X), ("sums", 3, X), ("sums", 1, X, Y, X),
     ("sums", -1, X), ("sums", -1, X, Y), ("sums", 4, X), ("sums", 4, X, Y), ("sums", True, X, Y), ("sums", False, X),
     ("sums", "0", X), ("sums", None, X), ("sums", 0, B0), ("sums", 1, X, B0), ("sums", 0, NO), ("sums", X, Y),
     ("sums", (0,), X), ("sums", [0], X), ("sums", NOUGHT, X),
     ("down",), ("down", ("equal", X), ("equal", X)), ("never",), ("never", ("equal", X), NO),
-    ("climb", B, given("p", B), "x", "u", given("p", B)), ("climb", ("same", B1, B0), given("p", B), "x", "u", given("p", B), X),
+    ("climb", B, given("p", B), "x", "u", given("p", B)), ("climb", ("same", B1, B0), given("p", B), "x", "u",
+                                                           given("p", B), X),
     ("climb", B, given("p", B), "x", "u", given("p", B), B0), ("climb", B, given("p", B), "X", "u", given("p", B), X),
     ("climb", B, given("p", B), "x", "", given("p", B), X), ("climb", B, given("p", B), "x", "u", given("p", B), X, X),
     ("climb", given("p", B), B, "x", "u", given("p", B), X), ("twice",), ("twice", given("u", NO), NO),
-    ("Given", "u", A), ("give", "u", A), ("", "u", A), (None, "u", A), (0,), ((),), (("given",), "u", A), ("same", X, X), X, NO,
+    ("Given", "u", A), ("give", "u", A), ("", "u", A), (None, "u", A), (0,), ((),), (("given",), "u", A),
+    ("same", X, X), X, NO,
 ]
 
 
@@ -407,7 +419,8 @@ class Forms(unittest.TestCase):
                 self.assertEqual(told(ground + (more,)), ((), "form"), ground)
 
     def test_anything(self):
-        things = ODD + ["given", ("given",) * 1000000, nested("x", 299, tuple), nested("x", 299, list), nested(None, 298, tuple),
+        things = ODD + ["given", ("given",) * 1000000, nested("x", 299, tuple), nested("x", 299, list),
+                        nested(None, 298, tuple),
                         nested((), 298, list), tower("next", X, 299), ("twice",) * 3, nested(("equal", X), 290, tuple),
                         [("equal", X)], {}.get(0), 10 ** 100, "x" * 100000]
         for thing in things:
@@ -416,7 +429,8 @@ class Forms(unittest.TestCase):
             self.assertEqual(told(("put", ("equal", X), BODY, ("both", thing, thing))), ((1, 0), "form"))
 
     def test_anything_as_a_part(self):
-        for thing in [thing for thing in ODD if not isinstance(thing, str)] + [nested("x", 290, list), nested((), 290, tuple)]:
+        for thing in [thing for thing in ODD if not isinstance(thing, str)] + [nested("x", 290, list),
+            nested((), 290, tuple)]:
             for ground in [("given", thing, A), ("given", "u", thing) if thing != NO else ("given",), ("equal", thing),
                            ("sums", thing, X) if thing != 0 else ("sums",), ("for", thing, ("equal", X)),
                            ("such", thing, X, ("equal", X)) if thing != NO else ("such",), ("at", ("equal", X), thing)]:
@@ -478,7 +492,8 @@ class Order(unittest.TestCase):
         # Where p's is no or, what u is closed for can't be told.
         self.assertEqual(told(("cases", given("p", A), "u", given("u", B), "v", given("u", B))), ((), "saying"))
         self.assertEqual(told(("open", given("u", A), "x", "v", given("u", B))), ((), "saying"))
-        self.assertEqual(told(("open", given("p", A), "x", "u", ("both", given("u", B), given("v", A)))), ((), "saying"))
+        self.assertEqual(told(("open", given("p", A), "x", "u", ("both", given("u", B), given("v", A)))),
+                         ((), "saying"))
         self.assertEqual(told(("climb", BODY, given("p", B), "x", "u", ("both", given("u", B), given("v", A)), X)),
                          ((), "saying"))
 
@@ -613,7 +628,8 @@ class Sizes(unittest.TestCase):
             (("such", big, X, given("u", big)), None), (("such", most, X, given("u", most)), "size"),
             (("absurd", given("u", NO), most), None), (("lets", "u", NO, given("v", big)), "size"),
             (("lets", "u", big, given("v", NO)), "size"), (("lets", "u", NO, given("v", big[1])), None),
-            (("both", given("u", big[1]), given("v", big[2])), None), (("both", given("u", most), given("v", NO)), "size"),
+            (("both", given("u", big[1]), given("v", big[2])), None), (("both", given("u", most), given("v", NO)),
+                "size"),
             (("this", given("v", NO), big), "size"), (("that", big, given("v", NO)), "size"),
             (("this", given("v", NO), big[1]), None), (("that", big[1], given("v", NO)), None),
             (("at", given("u", ("all", ("same", B0, B0))), half), None),
@@ -626,8 +642,10 @@ class Sizes(unittest.TestCase):
             (("sums", 0, half), "size"),
             (("sums", 1, half, X), "size"), (("sums", 2, ("next", bush("plus", X, 198))), None),
             (("sums", 2, bush("plus", X, 199)), "size"), (("sums", 3, X, half), "size"),
-            (("climb", ("same", ("times", B0, B0), ("times", B0, B0)), ("absurd", given("n", NO), ("same", ("times", NOUGHT, NOUGHT), ("times", NOUGHT, NOUGHT))),
-              "x", "u", ("absurd", given("n", NO), ("same", ("times", ("next", X), ("next", X)), ("times", ("next", X), ("next", X)))),
+            (("climb", ("same", ("times", B0, B0), ("times", B0, B0)),
+              ("absurd", given("n", NO), ("same", ("times", NOUGHT, NOUGHT), ("times", NOUGHT, NOUGHT))),
+              "x", "u", ("absurd", given("n", NO), ("same", ("times", ("next", X), ("next", X)),
+                                                    ("times", ("next", X), ("next", X)))),
               half), "size"),
         ]:
             if due is None:
@@ -637,9 +655,11 @@ class Sizes(unittest.TestCase):
 
     def test_within_one_another_of_what_is_grounded(self):
         for most, due in [(tower("all", NO, 59), None), (tower("some", NO, 60), ((), "size"))]:
-            for ground in [("for", "x", given("u", most)), ("such", most, X, given("u", most)), ("lets", "u", most, given("v", A)),
+            for ground in [("for", "x", given("u", most)), ("such", most, X, given("u", most)),
+                           ("lets", "u", most, given("v", A)),
                            ("lets", "u", A, given("v", most)), ("both", given("u", A), given("v", most)),
-                           ("this", given("u", most), NO), ("this", given("u", NO), most), ("that", most, given("u", NO)),
+                           ("this", given("u", most), NO), ("this", given("u", NO), most),
+                           ("that", most, given("u", NO)),
                            ("that", NO, given("u", most))]:
                 self.assertEqual(told(ground), due, ground)
         self.assertEqual(told(("equal", tower("next", X, 59))), None)
@@ -654,14 +674,16 @@ class Sizes(unittest.TestCase):
     def test_size_at_its_place(self):
         big = bush("and", NO, 200)
         self.assertEqual(told(("first", ("both", given("u", big), given("v", big)))), ((0,), "size"))
-        self.assertEqual(told(("uses", ("lets", "u", A, given("u", A)), ("first", ("both", given("v", A), ("equal", bush("plus", X, 200)))))),
+        self.assertEqual(told(("uses", ("lets", "u", A, given("u", A)),
+                               ("first", ("both", given("v", A), ("equal", bush("plus", X, 200)))))),
                          ((1, 0, 1), "size"))
 
 
 class HandedIn(unittest.TestCase):
     def test_things_are_as_they_were(self):
         inner = ["given", "u", ["no"]]
-        for thing in [inner, ("twice", inner), ("given", "u", ["no"]), ("given", ["u"], NO), ("both", ("equal", X), [inner])]:
+        for thing in [inner, ("twice", inner), ("given", "u", ["no"]), ("given", ["u"], NO),
+                      ("both", ("equal", X), [inner])]:
             before = repr(thing)
             self.assertIsNotNone(told(thing))
             self.assertEqual(repr(thing), before)

@@ -13,7 +13,8 @@ EITHER = ("either", NONE, NUMBER)
 FROM = ("from", NUMBER, PAIR)
 
 KINDS = [NONE, NUMBER, PAIR, EITHER, FROM, ("either", NONE, NONE), ("either", NUMBER, NONE), ("either", EITHER, FROM),
-         ("pair", EITHER, FROM), ("from", EITHER, EITHER), ("from", FROM, FROM), ("pair", ("either", NONE, NONE), NUMBER)]
+         ("pair", EITHER, FROM), ("from", EITHER, EITHER), ("from", FROM, FROM),
+         ("pair", ("either", NONE, NONE), NUMBER)]
 
 SOME = ("some", ("same", B0, X))
 OR = ("or", NO, NO)
@@ -35,7 +36,8 @@ class IsKind(unittest.TestCase):
         for word in ("pair", "from"):
             for wrong in [(word, NONE, NUMBER), (word, NUMBER, NONE), (word, NONE, NONE)]:
                 self.assertIs(is_kind(wrong), False)
-                for around in [("either", NONE, wrong), ("either", wrong, NUMBER), ("pair", NUMBER, wrong), ("from", wrong, NUMBER),
+                for around in [("either", NONE, wrong), ("either", wrong, NUMBER), ("pair", NUMBER, wrong),
+                               ("from", wrong, NUMBER),
                                ("either", wrong, wrong), ("pair", wrong, wrong)]:
                     self.assertIs(is_kind(around), False)
 
@@ -53,12 +55,16 @@ class IsKind(unittest.TestCase):
         self.assertIs(is_kind((["none"],)), False)
 
     def test_other_things(self):
-        things = ODD + ["none", "number", ("None",), ("numbers",), ("NUMBER",), NO, TRUE, X, ("either",), ("either", 0, 1),
-                        ("two", NUMBER, NUMBER), ("all", NUMBER), ("none", "none"), (NONE,), ((NONE, NONE),), ("", NUMBER, NUMBER),
-                        (None, NUMBER, NUMBER), (("pair",), NUMBER, NUMBER), ("number", NUMBER, NUMBER), ("none", NONE, NONE)]
+        things = ODD + ["none", "number", ("None",), ("numbers",), ("NUMBER",), NO, TRUE, X, ("either",),
+                        ("either", 0, 1),
+                        ("two", NUMBER, NUMBER), ("all", NUMBER), ("none", "none"), (NONE,), ((NONE, NONE),),
+                        ("", NUMBER, NUMBER),
+                        (None, NUMBER, NUMBER), (("pair",), NUMBER, NUMBER), ("number", NUMBER, NUMBER),
+                        ("none", NONE, NONE)]
         for thing in things:
             self.assertIs(is_kind(thing), False, thing)
-            for kind in [("pair", thing, NUMBER), ("pair", NUMBER, thing), ("from", thing, NUMBER), ("from", NUMBER, thing),
+            for kind in [("pair", thing, NUMBER), ("pair", NUMBER, thing), ("from", thing, NUMBER),
+                         ("from", NUMBER, thing),
                          ("either", thing, NONE), ("either", NONE, thing), ("either", ("either", thing, thing), NONE),
                          ("either", thing, thing)]:
                 self.assertIs(is_kind(kind), False, kind)
@@ -75,7 +81,8 @@ class IsKind(unittest.TestCase):
     def test_far_within_one_another(self):
         for leaf in ("number", NUMBER, None, ()):
             for thing in [nested(leaf, 298, tuple), nested(leaf, 298, list), tower("either", leaf, 299),
-                          ("either", nested(leaf, 297, tuple), nested(leaf, 297, tuple)), ("either", NONE, nested(leaf, 297, list))]:
+                          ("either", nested(leaf, 297, tuple), nested(leaf, 297, tuple)),
+                          ("either", NONE, nested(leaf, 297, list))]:
                 self.assertIs(is_kind(thing), False)
 
     def test_great_ones(self):
@@ -102,18 +109,25 @@ class KindOf(unittest.TestCase):
         # The kind of A, or a number, stands behind each saying A whose kind isn't none.
         for saying, kind in [
             (TRUE, NONE), (NO, NONE), (("same", X, Y), NONE),
-            (("and", NO, TRUE), NONE), (("and", SOME, TRUE), NUMBER), (("and", NO, SOME), NUMBER), (("and", SOME, SOME), PAIR),
+            (("and", NO, TRUE), NONE), (("and", SOME, TRUE), NUMBER), (("and", NO, SOME), NUMBER),
+            (("and", SOME, SOME), PAIR),
             (("and", SOME, OR), ("pair", NUMBER, ("either", NONE, NONE))),
             (("or", NO, TRUE), ("either", NONE, NONE)), (("or", SOME, TRUE), ("either", NUMBER, NONE)),
-            (("or", TRUE, SOME), ("either", NONE, NUMBER)), (("or", SOME, OR), ("either", NUMBER, ("either", NONE, NONE))),
-            (("if", NO, TRUE), NONE), (("if", SOME, TRUE), NONE), (("if", NO, SOME), NUMBER), (("if", SOME, SOME), ("from", NUMBER, NUMBER)),
-            (("if", OR, SOME), ("from", ("either", NONE, NONE), NUMBER)), (("if", SOME, OR), ("from", NUMBER, ("either", NONE, NONE))),
+            (("or", TRUE, SOME), ("either", NONE, NUMBER)), (("or", SOME, OR),
+                ("either", NUMBER, ("either", NONE, NONE))),
+            (("if", NO, TRUE), NONE), (("if", SOME, TRUE), NONE), (("if", NO, SOME), NUMBER),
+            (("if", SOME, SOME), ("from", NUMBER, NUMBER)),
+            (("if", OR, SOME), ("from", ("either", NONE, NONE), NUMBER)),
+            (("if", SOME, OR), ("from", NUMBER, ("either", NONE, NONE))),
             (("all", NO), NONE), (("all", ("same", B0, X)), NONE), (("all", SOME), ("from", NUMBER, NUMBER)),
             (("all", ("all", OR)), ("from", NUMBER, ("from", NUMBER, ("either", NONE, NONE)))),
-            (("some", NO), NUMBER), (("some", ("same", B0, X)), NUMBER), (("some", SOME), PAIR), (("some", OR), ("pair", NUMBER, ("either", NONE, NONE))),
-            (("some", ("all", NO)), NUMBER), (("all", ("some", NO)), ("from", NUMBER, NUMBER)), (("some", ("if", SOME, NO)), NUMBER),
+            (("some", NO), NUMBER), (("some", ("same", B0, X)), NUMBER), (("some", SOME), PAIR),
+            (("some", OR), ("pair", NUMBER, ("either", NONE, NONE))),
+            (("some", ("all", NO)), NUMBER), (("all", ("some", NO)), ("from", NUMBER, NUMBER)),
+            (("some", ("if", SOME, NO)), NUMBER),
             (("if", ("if", SOME, NO), SOME), NUMBER), (("all", ("if", SOME, NO)), NONE),
-            (("and", ("if", SOME, NO), SOME), NUMBER), (("if", ("and", SOME, OR), ("and", NO, SOME)), ("from", ("pair", NUMBER, ("either", NONE, NONE)), NUMBER)),
+            (("and", ("if", SOME, NO), SOME), NUMBER), (("if", ("and", SOME, OR), ("and", NO, SOME)),
+                                                        ("from", ("pair", NUMBER, ("either", NONE, NONE)), NUMBER)),
         ]:
             self.assertEqual(kind_of(saying), kind, saying)
 

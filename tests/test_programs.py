@@ -34,7 +34,8 @@ RIGHT = [
     (("next", N), NUMBER, "", "n"), (("plus", X, Y), NUMBER, "xy", ""), (("times", Y, ("next", N)), NUMBER, "y", "n"),
     (P, PAIR, "", "p"), (Q, NONE, "", "q"), (("lets", "u", PAIR, X), ("from", PAIR, NUMBER), "x", ""),
     (("lets", "p", PAIR, ("pair", P, N)), ("from", PAIR, ("pair", PAIR, NUMBER)), "", "n"),
-    (("for", "x", ("plus", X, Y)), ("from", NUMBER, NUMBER), "y", ""), (("for", "z", P), ("from", NUMBER, PAIR), "", "p"),
+    (("for", "x", ("plus", X, Y)), ("from", NUMBER, NUMBER), "y", ""),
+    (("for", "z", P), ("from", NUMBER, PAIR), "", "p"),
     (("call", F, P), NUMBER, "", "fp"), (("call", ("for", "x", X), Y), NUMBER, "y", ""),
     (("call", ("lets", "u", NUMBER, known("u", NUMBER)), FIVE), NUMBER, "", ""),
     (("pair", X, P), ("pair", NUMBER, PAIR), "x", "p"), (("first", P), NUMBER, "", "p"),
@@ -104,9 +105,12 @@ class Closed(unittest.TestCase):
             (("lets", "u", NUMBER, u), ()), (("plus", u, ("call", ("lets", "u", NUMBER, u), FIVE)), ("u",)),
             (("lets", "u", NUMBER, ("lets", "u", NUMBER, u)), ()), (("parts", ("pair", u, u), "x", "u", FIVE), ("u",)),
             (("parts", ("pair", FIVE, FIVE), "x", "u", u), ()), (("cases", either, "u", FIVE, "u", FIVE), ("u",)),
-            (("cases", ("this", FIVE, NUMBER), "u", u, "v", FIVE), ()), (("cases", ("this", FIVE, NUMBER), "v", u, "u", FIVE), ("u",)),
-            (("cases", ("this", FIVE, NUMBER), "v", FIVE, "u", u), ()), (("cases", ("this", FIVE, NUMBER), "u", FIVE, "v", u), ("u",)),
-            (("climb", u, "x", "u", FIVE, FIVE), ("u",)), (("climb", FIVE, "x", "u", u, FIVE), ()), (("climb", FIVE, "x", "u", FIVE, u), ("u",)),
+            (("cases", ("this", FIVE, NUMBER), "u", u, "v", FIVE), ()),
+            (("cases", ("this", FIVE, NUMBER), "v", u, "u", FIVE), ("u",)),
+            (("cases", ("this", FIVE, NUMBER), "v", FIVE, "u", u), ()),
+            (("cases", ("this", FIVE, NUMBER), "u", FIVE, "v", u), ("u",)),
+            (("climb", u, "x", "u", FIVE, FIVE), ("u",)), (("climb", FIVE, "x", "u", u, FIVE), ()),
+            (("climb", FIVE, "x", "u", FIVE, u), ("u",)),
         ]:
             self.assertEqual(tuple(label for label, _ in judged(program)[2]), labels, program)
 
@@ -118,37 +122,52 @@ class Closed(unittest.TestCase):
 
     def test_that_stand_nowhere(self):
         for program in [("for", "x", FIVE), ("lets", "u", PAIR, FIVE),
-                        ("parts", P, "x", "u", FIVE), ("cases", E, "u", FIVE, "v", FIVE), ("climb", FIVE, "x", "u", FIVE, FIVE)]:
+                        ("parts", P, "x", "u", FIVE), ("cases", E, "u", FIVE, "v", FIVE),
+                        ("climb", FIVE, "x", "u", FIVE, FIVE)]:
             self.assertIsNone(told(program), program)
 
     def test_a_label_of_two_kinds(self):
         one, other = known("u", NUMBER), known("u", PAIR)
-        for program in [("pair", one, other), ("call", known("u", ("from", NUMBER, NUMBER)), one), ("parts", other, "x", "v", one),
+        for program in [("pair", one, other), ("call", known("u", ("from", NUMBER, NUMBER)), one),
+                        ("parts", other, "x", "v", one),
                         ("cases", E, "a", one, "b", ("first", other)), ("climb", one, "x", "v", ("first", other), FIVE),
                         ("climb", FIVE, "x", "v", ("first", other), one), ("climb", other, "x", "v", other, one),
-                        ("plus", ("first", other), one), ("cases", known("u", ("either", NUMBER, NUMBER)), "a", one, "b", FIVE)]:
+                        ("plus", ("first", other), one), ("cases", known("u", ("either", NUMBER, NUMBER)), "a", one,
+                                                          "b", FIVE)]:
             self.assertEqual(told(program), (), program)
 
     def test_closed_for_another_kind(self):
         u = known("u", NUMBER)
-        for program in [("lets", "u", PAIR, u), ("parts", P, "x", "u", u), ("cases", E, "u", u, "v", FIVE), ("cases", E, "v", FIVE, "u", u),
-                        ("climb", P, "x", "u", ("pair", u, ("second", P)), FIVE), ("cases", E, "u", NOTHING, "v", ("parts", ("pair", u, known("v", NUMBER)), "x", "w", NOTHING))]:
+        for program in [("lets", "u", PAIR, u), ("parts", P, "x", "u", u), ("cases", E, "u", u, "v", FIVE),
+                        ("cases", E, "v", FIVE, "u", u),
+                        ("climb", P, "x", "u", ("pair", u, ("second", P)), FIVE),
+                        ("cases", E, "u", NOTHING, "v", ("parts", ("pair", u, known("v", NUMBER)), "x", "w", NOTHING))]:
             self.assertEqual(told(program), (), program)
 
 
 class Conditions(unittest.TestCase):
     def test_each_alone(self):
         for program in [
-            ("next", P), ("next", NOTHING), ("next", ("for", "x", X)), ("plus", P, FIVE), ("plus", FIVE, NOTHING), ("times", E, FIVE),
-            ("times", FIVE, P), ("lets", "u", NONE, FIVE), ("lets", "u", NUMBER, NOTHING), ("lets", "u", NONE, NOTHING), ("for", "x", NOTHING), ("for", "x", Q),
-            ("call", FIVE, FIVE), ("call", P, FIVE), ("call", F, FIVE), ("call", ("for", "x", X), P), ("call", E, P), ("call", ("for", "x", X), NOTHING),
-            ("pair", NOTHING, FIVE), ("pair", FIVE, NOTHING), ("pair", Q, Q), ("first", FIVE), ("first", F), ("first", E), ("first", NOTHING),
-            ("second", FIVE), ("second", F), ("second", E), ("parts", FIVE, "x", "u", FIVE), ("parts", ("pair", P, FIVE), "x", "u", FIVE),
-            ("parts", F, "x", "u", FIVE), ("parts", ("this", FIVE, NUMBER), "x", "u", FIVE), ("parts", ("for", "x", X), "x", "u", FIVE),
-            ("cases", P, "u", FIVE, "v", FIVE), ("cases", FIVE, "u", FIVE, "v", FIVE), ("cases", F, "u", FIVE, "v", FIVE),
-            ("cases", E, "u", FIVE, "v", P), ("cases", E, "u", NOTHING, "v", FIVE), ("cases", NOTHING, "u", FIVE, "v", FIVE),
-            ("climb", NOTHING, "x", "u", NOTHING, FIVE), ("climb", FIVE, "x", "u", P, FIVE), ("climb", P, "x", "u", FIVE, FIVE),
-            ("climb", FIVE, "x", "u", FIVE, P), ("climb", FIVE, "x", "u", FIVE, NOTHING), ("climb", Q, "x", "u", Q, FIVE),
+            ("next", P), ("next", NOTHING), ("next", ("for", "x", X)), ("plus", P, FIVE), ("plus", FIVE, NOTHING),
+            ("times", E, FIVE),
+            ("times", FIVE, P), ("lets", "u", NONE, FIVE), ("lets", "u", NUMBER, NOTHING),
+            ("lets", "u", NONE, NOTHING), ("for", "x", NOTHING), ("for", "x", Q),
+            ("call", FIVE, FIVE), ("call", P, FIVE), ("call", F, FIVE), ("call", ("for", "x", X), P), ("call", E, P),
+            ("call", ("for", "x", X), NOTHING),
+            ("pair", NOTHING, FIVE), ("pair", FIVE, NOTHING), ("pair", Q, Q), ("first", FIVE), ("first", F),
+            ("first", E), ("first", NOTHING),
+            ("second", FIVE), ("second", F), ("second", E), ("parts", FIVE, "x", "u", FIVE),
+            ("parts", ("pair", P, FIVE), "x", "u", FIVE),
+            ("parts", F, "x", "u", FIVE), ("parts", ("this", FIVE, NUMBER), "x", "u", FIVE),
+            ("parts", ("for", "x", X), "x", "u", FIVE),
+            ("cases", P, "u", FIVE, "v", FIVE), ("cases", FIVE, "u", FIVE, "v", FIVE),
+            ("cases", F, "u", FIVE, "v", FIVE),
+            ("cases", E, "u", FIVE, "v", P), ("cases", E, "u", NOTHING, "v", FIVE),
+            ("cases", NOTHING, "u", FIVE, "v", FIVE),
+            ("climb", NOTHING, "x", "u", NOTHING, FIVE), ("climb", FIVE, "x", "u", P, FIVE),
+            ("climb", P, "x", "u", FIVE, FIVE),
+            ("climb", FIVE, "x", "u", FIVE, P), ("climb", FIVE, "x", "u", FIVE, NOTHING),
+            ("climb", Q, "x", "u", Q, FIVE),
         ]:
             self.assertEqual(told(program), (), program)
             self.assertEqual(told(("pair", FIVE, program)), (1,), program)
@@ -181,19 +200,32 @@ class Conditions(unittest.TestCase):
 
 
 MALFORMED = [
-    ("nothing", 0), ("nothing", NOTHING), ("num",), ("num", -1), ("num", GREAT), ("num", True), ("num", False), ("num", None), ("num", "0"), ("num", 0, 0),
-    ("num", FIVE), ("name",), ("name", ""), ("name", "X"), ("name", "abcdefghi"), ("name", 0), ("name", X), ("name", "x", "x"),
-    ("next",), ("next", FIVE, FIVE), ("plus", FIVE), ("plus", FIVE, FIVE, FIVE), ("times", FIVE), ("known", "u"), ("known", "U", NUMBER),
-    ("known", "u", NUMBER, NUMBER), ("known", "u", "number"), ("known", "u", ("pair", NONE, NUMBER)), ("known", "u", ("from", NUMBER, NONE)),
-    ("known", "u", FIVE), ("known", NUMBER, "u"), ("known", "u", ["number"]), ("lets", "u", FIVE), ("lets", "", NUMBER, FIVE),
-    ("lets", "u", ("nones",), FIVE), ("lets", "u", NUMBER, FIVE, FIVE), ("lets", "u", FIVE, NUMBER), ("for", "x"), ("for", "x1", FIVE), ("for", X, FIVE),
-    ("for", "x", FIVE, FIVE), ("call", FIVE), ("call", F, P, P), ("pair", FIVE), ("pair", FIVE, FIVE, FIVE), ("first",), ("first", P, P), ("second",),
-    ("second", P, P), ("parts", P, "x", "u"), ("parts", P, "x", FIVE), ("parts", P, "X", "u", FIVE), ("parts", P, "x", "abcdefghi", FIVE),
-    ("parts", P, "x", "u", FIVE, FIVE), ("this", FIVE), ("this", FIVE, FIVE), ("this", NUMBER, FIVE), ("this", FIVE, NUMBER, NUMBER),
-    ("this", FIVE, ("either", NONE, ("pair", NONE, NONE))), ("that", FIVE), ("that", FIVE, NUMBER), ("that", ("none", NONE), FIVE),
-    ("cases", E, "u", FIVE, "v"), ("cases", E, "u", FIVE, FIVE), ("cases", E, "U", FIVE, "v", FIVE), ("cases", E, "u", FIVE, "", FIVE),
-    ("cases", E, "u", FIVE, "v", FIVE, FIVE), ("climb", FIVE, "x", "u", FIVE), ("climb", FIVE, "x", "u", FIVE, FIVE, FIVE),
-    ("climb", FIVE, "x y", "u", FIVE, FIVE), ("climb", FIVE, "x", 0, FIVE, FIVE), ("Nothing",), ("bound", 0), ("given", "u", NUMBER), ("open", FIVE),
+    ("nothing", 0), ("nothing", NOTHING), ("num",), ("num", -1), ("num", GREAT), ("num", True), ("num", False),
+    ("num", None), ("num", "0"), ("num", 0, 0),
+    ("num", FIVE), ("name",), ("name", ""), ("name", "X"), ("name", "abcdefghi"), ("name", 0), ("name", X),
+    ("name", "x", "x"),
+    ("next",), ("next", FIVE, FIVE), ("plus", FIVE), ("plus", FIVE, FIVE, FIVE), ("times", FIVE), ("known", "u"),
+    ("known", "U", NUMBER),
+    ("known", "u", NUMBER, NUMBER), ("known", "u", "number"), ("known", "u", ("pair", NONE, NUMBER)),
+    ("known", "u", ("from", NUMBER, NONE)),
+    ("known", "u", FIVE), ("known", NUMBER, "u"), ("known", "u", ["number"]), ("lets", "u", FIVE),
+    ("lets", "", NUMBER, FIVE),
+    ("lets", "u", ("nones",), FIVE), ("lets", "u", NUMBER, FIVE, FIVE), ("lets", "u", FIVE, NUMBER), ("for", "x"),
+    ("for", "x1", FIVE), ("for", X, FIVE),
+    ("for", "x", FIVE, FIVE), ("call", FIVE), ("call", F, P, P), ("pair", FIVE), ("pair", FIVE, FIVE, FIVE),
+    ("first",), ("first", P, P), ("second",),
+    ("second", P, P), ("parts", P, "x", "u"), ("parts", P, "x", FIVE), ("parts", P, "X", "u", FIVE),
+    ("parts", P, "x", "abcdefghi", FIVE),
+    ("parts", P, "x", "u", FIVE, FIVE), ("this", FIVE), ("this", FIVE, FIVE), ("this", NUMBER, FIVE),
+    ("this", FIVE, NUMBER, NUMBER),
+    ("this", FIVE, ("either", NONE, ("pair", NONE, NONE))), ("that", FIVE), ("that", FIVE, NUMBER),
+    ("that", ("none", NONE), FIVE),
+    ("cases", E, "u", FIVE, "v"), ("cases", E, "u", FIVE, FIVE), ("cases", E, "U", FIVE, "v", FIVE),
+    ("cases", E, "u", FIVE, "", FIVE),
+    ("cases", E, "u", FIVE, "v", FIVE, FIVE), ("climb", FIVE, "x", "u", FIVE),
+    ("climb", FIVE, "x", "u", FIVE, FIVE, FIVE),
+    ("climb", FIVE, "x y", "u", FIVE, FIVE), ("climb", FIVE, "x", 0, FIVE, FIVE), ("Nothing",), ("bound", 0),
+    ("given", "u", NUMBER), ("open", FIVE),
     ("none",), NUMBER, (None,), (0,), ([],), ((),), (("num",), 0), (["num"], 0),
 ]
 
@@ -211,7 +243,8 @@ class Forms(unittest.TestCase):
             self.assertEqual(told(("for", "x", list(program))), (0,))
 
     def test_anything(self):
-        things = ODD + ["nothing", [NOTHING], ("nothing",) * 100000, nested("x", 299, tuple), nested("x", 299, list), nested(NOTHING, 290, tuple),
+        things = ODD + ["nothing", [NOTHING], ("nothing",) * 100000, nested("x", 299, tuple), nested("x", 299, list),
+                        nested(NOTHING, 290, tuple),
                         tower("nexts", FIVE, 299), nested((), 298, list)]
         for thing in things:
             if thing != ("nothing",):
@@ -219,8 +252,10 @@ class Forms(unittest.TestCase):
                 self.assertEqual(told(("plus", FIVE, thing)), (1,), repr(thing)[:80])
 
     def test_anything_as_a_part(self):
-        for thing in [thing for thing in ODD if not isinstance(thing, (str, int)) or isinstance(thing, bool)] + [nested("x", 290, list)]:
-            for program in [("num", thing), ("name", thing), ("known", thing, NUMBER), ("known", "u", thing), ("this", FIVE, thing),
+        for thing in [thing for thing in ODD if not isinstance(thing, (str, int)) or isinstance(thing,
+            bool)] + [nested("x", 290, list)]:
+            for program in [("num", thing), ("name", thing), ("known", thing, NUMBER), ("known", "u", thing),
+                            ("this", FIVE, thing),
                             ("lets", thing, NUMBER, FIVE), ("for", thing, FIVE)]:
                 self.assertEqual(told(program), (), program)
 
@@ -230,7 +265,9 @@ class Forms(unittest.TestCase):
         for seed in range(120):
             maker = Maker(seed)
             program = yielded(maker.ground(size=4))
-            for thing in [program] + [spoiled(maker.chance, maker.chance.choice([program, maker.chance.choice(others)]), others) for _ in range(6)]:
+            for thing in [program] + [spoiled(maker.chance,
+                                              maker.chance.choice([program, maker.chance.choice(others)]),
+                                              others) for _ in range(6)]:
                 try:
                     kind, names, knowns = oracle.program_told(thing)
                 except oracle.Refused as refusal:
@@ -254,8 +291,10 @@ class Sizes(unittest.TestCase):
 
     def test_pieces(self):
         half = bush("plus", FIVE, 3000)
-        for program, due in [(("plus", half, half), None), (("next", ("plus", half, half)), None), (("next", ("next", ("plus", half, half))), ()),
-                             (bush("plus", FIVE, 6001), ()), (bush("pair", FIVE, 6000), None), (bush("plus", X, 100000), ())]:
+        for program, due in [(("plus", half, half), None), (("next", ("plus", half, half)), None),
+                             (("next", ("next", ("plus", half, half))), ()),
+                             (bush("plus", FIVE, 6001), ()), (bush("pair", FIVE, 6000), None),
+                             (bush("plus", X, 100000), ())]:
             self.assertEqual(told(program), due)
 
     def test_far_more(self):

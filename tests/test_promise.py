@@ -67,7 +67,8 @@ def halves(term):
     # next x = next (next (y + y)) = next (next y + y) = next y + next y.
     more = ("put", ("given", "o", odd), ("same", ("next", X), ("next", B0)), ("equal", ("next", X)))
     more = ("put", turned(next_sum(Y, Y), ("plus", ("next", Y), Y)), ("same", ("next", X), ("next", B0)), more)
-    more = ("put", turned(("sums", 1, ("next", Y), Y), ("plus", ("next", Y), ("next", Y))), ("same", ("next", X), B0), more)
+    more = ("put", turned(("sums", 1, ("next", Y), Y), ("plus", ("next", Y), ("next", Y))), ("same", ("next", X), B0),
+            more)
     right = ("such", above, ("next", Y), ("this", more, put_in(above, ("next", Y))[2]))
     turn = ("open", ("given", "u", put_in(HALVES, X)), "y", "v",
             ("cases", ("given", "v", ("or", even, odd)), "e", left, "o", right))
@@ -159,7 +160,8 @@ class ByChance(unittest.TestCase):
                 continue
             term = maker.term(["a", "b", "x"], 2)
             told = named(ground, names[0], term)
-            numbers = {name: maker.chance.randrange(4) for name in [*open_names(ground), *names_in(term), "a", "b", "x"]}
+            numbers = {name: maker.chance.randrange(4) for name in [*open_names(ground), *names_in(term), "a", "b",
+                "x"]}
             before = dict(numbers)
             before[names[0]] = run(term, numbers)
             self.assertEqual(run(yielded(told), numbers), run(yielded(ground), before), (ground, term))
@@ -204,7 +206,9 @@ class Shown(unittest.TestCase):
         # From what isn't so, whatever stands behind comes: so its yield tells a worth of the kind.
         word, ground = settled(("same", ("plus", ONE, ONE), num(3)))
         self.assertEqual(word, "no")
-        whole = ("lets", "u", grounded(ground)[0][1], ("absurd", ("uses", ground, ("given", "u", grounded(ground)[0][1])), put_in(HALVES, num(5))))
+        whole = ("lets", "u", grounded(ground)[0][1], ("absurd",
+                                                       ("uses", ground, ("given", "u", grounded(ground)[0][1])),
+                                                       put_in(HALVES, num(5))))
         saying = grounded(whole)[0]
         worth = run(yielded(whole), {})
         self.assertIs(is_worth(kind_of(saying), worth), True)

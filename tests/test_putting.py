@@ -33,17 +33,27 @@ class OpenNames(unittest.TestCase):
     def test_every_word(self):
         x, y, z = equal("x"), equal("y"), equal("z")
         for ground, names in [
-            (given("u", ("and", A, B)), "xy"), (given("u", ("all", BODY)), "y"), (given("u", NO), ""), (("lets", "u", A, y), "xy"), (("uses", ("lets", "u", TRUE, x), ("equal", NOUGHT)), "x"),
-            (("both", y, x), "xy"), (("first", ("both", y, x)), "xy"), (("second", ("both", y, x)), "xy"), (("this", x, B), "xy"), (("that", B, x), "xy"),
-            (("cases", ("this", x, B), "u", z, "v", z), "xyz"), (("cases", ("this", x, NO), "u", ("absurd", given("n", NO), B), "v", ("absurd", given("m", NO), B)), "xy"),
-            (("for", "x", equal("x", "y")), "y"), (("for", "z", equal("x", "y")), "xy"), (("at", ("for", "x", x), Y), "y"), (("such", BODY, X, given("u", ("same", X, Y))), "xy"),
+            (given("u", ("and", A, B)), "xy"), (given("u", ("all", BODY)), "y"), (given("u", NO), ""),
+            (("lets", "u", A, y), "xy"), (("uses", ("lets", "u", TRUE, x), ("equal", NOUGHT)), "x"),
+            (("both", y, x), "xy"), (("first", ("both", y, x)), "xy"), (("second", ("both", y, x)), "xy"),
+            (("this", x, B), "xy"), (("that", B, x), "xy"),
+            (("cases", ("this", x, B), "u", z, "v", z), "xyz"),
+            (("cases", ("this", x, NO), "u", ("absurd", given("n", NO), B), "v", ("absurd", given("m", NO), B)), "xy"),
+            (("for", "x", equal("x", "y")), "y"), (("for", "z", equal("x", "y")), "xy"),
+            (("at", ("for", "x", x), Y), "y"), (("such", BODY, X, given("u", ("same", X, Y))), "xy"),
             (("such", TRUE, X, ("equal", NOUGHT)), "x"), (("such", ("same", B0, B0), NOUGHT, ("equal", NOUGHT)), ""),
-            (("open", given("p", ("some", BODY)), "x", "u", equal("z", "z")), "yz"), (("open", ("such", TRUE, X, ("equal", NOUGHT)), "x", "u", y), "xy"),
-            (("open", given("p", ("some", BODY)), "x", "u", ("lets", "v", NO, ("first", ("both", z, x)))), "yz"), (("absurd", given("n", NO), A), "x"), (("equal", ("plus", Y, ("next", X))), "xy"),
-            (("put", ("equal", X), BODY, given("u", ("same", X, Y))), "xy"), (("reckoned", ONE, ONE), ""), (("sums", 0, X), "x"), (("sums", 1, X, Y), "xy"), (("sums", 2, X), "x"), (("sums", 3, Y, X), "xy"),
-            (("down", given("u", ("same", ("next", X), ("next", Y)))), "xy"), (("never", given("u", ("same", ("next", X), NOUGHT))), "x"),
-            (("climb", B, given("p", B), "x", "u", ("first", ("both", given("u", B), x)), Z), "yz"), (("climb", B, ("first", ("both", given("p", B), x)), "x", "u", given("u", B), Z), "xyz"),
-            (("climb", B, given("p", B), "x", "u", given("u", B), X), "xy"), (("climb", ("same", B0, B0), ("equal", NOUGHT), "x", "u", ("equal", ("next", X)), NOUGHT), ""),
+            (("open", given("p", ("some", BODY)), "x", "u", equal("z", "z")), "yz"),
+            (("open", ("such", TRUE, X, ("equal", NOUGHT)), "x", "u", y), "xy"),
+            (("open", given("p", ("some", BODY)), "x", "u", ("lets", "v", NO, ("first", ("both", z, x)))), "yz"),
+            (("absurd", given("n", NO), A), "x"), (("equal", ("plus", Y, ("next", X))), "xy"),
+            (("put", ("equal", X), BODY, given("u", ("same", X, Y))), "xy"), (("reckoned", ONE, ONE), ""),
+            (("sums", 0, X), "x"), (("sums", 1, X, Y), "xy"), (("sums", 2, X), "x"), (("sums", 3, Y, X), "xy"),
+            (("down", given("u", ("same", ("next", X), ("next", Y)))), "xy"),
+            (("never", given("u", ("same", ("next", X), NOUGHT))), "x"),
+            (("climb", B, given("p", B), "x", "u", ("first", ("both", given("u", B), x)), Z), "yz"),
+            (("climb", B, ("first", ("both", given("p", B), x)), "x", "u", given("u", B), Z), "xyz"),
+            (("climb", B, given("p", B), "x", "u", given("u", B), X), "xy"),
+            (("climb", ("same", B0, B0), ("equal", NOUGHT), "x", "u", ("equal", ("next", X)), NOUGHT), ""),
             (("twice", given("u", ("if", ("if", A, NO), NO))), "x"),
         ]:
             self.assertEqual(open_names(ground), list(names), ground)
@@ -90,18 +100,22 @@ class Alike(unittest.TestCase):
             other = ("such", ("same", B0, Y), ("name", x), given("u", ("same", ("name", x), Y)))
             self.check(("open", some, "x", "u", at_x), ("open", some, x, "u", other), True)
             start, turn = ("equal", NOUGHT), ("equal", ("next", ("name", x)))
-            self.check(("climb", ("same", B0, B0), start, "x", "u", ("equal", ("next", X)), Y), ("climb", ("same", B0, B0), start, x, "u", turn, Y), True)
+            self.check(("climb", ("same", B0, B0), start, "x", "u", ("equal", ("next", X)), Y),
+                       ("climb", ("same", B0, B0), start, x, "u", turn, Y), True)
 
     def test_closed_labels(self):
         for u in ("u", "w", "x"):
             self.check(("lets", "u", A, given("u", A)), ("lets", u, A, given(u, A)), True)
             either = given("p", ("or", A, A))
-            self.check(("cases", either, "u", given("u", A), "v", given("v", A)), ("cases", either, u, given(u, A), "v", given("v", A)), True)
-            self.check(("cases", either, "u", given("u", A), "v", given("v", A)), ("cases", either, "v", given("v", A), u, given(u, A)), True)
+            self.check(("cases", either, "u", given("u", A), "v", given("v", A)),
+                       ("cases", either, u, given(u, A), "v", given("v", A)), True)
+            self.check(("cases", either, "u", given("u", A), "v", given("v", A)),
+                       ("cases", either, "v", given("v", A), u, given(u, A)), True)
             some = given("p", SOME)
             at_x, other = (("such", ("same", B0, Y), X, given(label, ("same", X, Y))) for label in ("u", u))
             self.check(("open", some, "x", "u", at_x), ("open", some, "x", u, other), True)
-            self.check(("climb", B, given("p", B), "x", "u", given("u", B), Y), ("climb", B, given("p", B), "x", u, given(u, B), Y), True)
+            self.check(("climb", B, given("p", B), "x", "u", given("u", B), Y),
+                       ("climb", B, given("p", B), "x", u, given(u, B), Y), True)
 
     def test_crosswise(self):
         one = ("for", "x", ("for", "y", equal("x", "y")))
@@ -126,12 +140,14 @@ class Alike(unittest.TestCase):
         self.check(("for", "x", equal("y")), ("for", "y", equal("y")), False)
         self.check(("for", "x", equal("y")), ("for", "z", equal("y")), True)
         self.check(("lets", "u", A, given("u", A)), ("lets", "v", A, given("u", A)), False)
-        self.check(("climb", B, given("p", B), "x", "p", given("p", B), X), ("climb", B, given("p", B), "x", "q", given("p", B), X), False)
+        self.check(("climb", B, given("p", B), "x", "p", given("p", B), X),
+                   ("climb", B, given("p", B), "x", "q", given("p", B), X), False)
 
     def test_a_name_closed_where_it_does_not_stand(self):
         for word in ("x", "z", "q"):
             self.check(("for", "q", ("equal", Y)), ("for", word, ("equal", Y)), True)
-            self.check(("climb", B, given("p", B), "q", "q", given("p", B), X), ("climb", B, given("p", B), word, word, given("p", B), X), True)
+            self.check(("climb", B, given("p", B), "q", "q", given("p", B), X),
+                       ("climb", B, given("p", B), word, word, given("p", B), X), True)
 
     def test_closed_twice_within_one_another(self):
         one = ("for", "x", ("both", equal("x"), ("for", "x", equal("x"))))
@@ -145,25 +161,38 @@ class Alike(unittest.TestCase):
     def test_where_a_word_is_closed_and_where_not(self):
         # The x of a climb is closed in its second ground alone, that of open too.
         start, turn = ("equal", NOUGHT), ("equal", ("next", X))
-        self.check(("climb", ("same", B0, B0), start, "x", "u", turn, X), ("climb", ("same", B0, B0), start, "y", "u", ("equal", ("next", Y)), Y), False)
-        self.check(("climb", ("same", B0, B0), start, "x", "u", turn, X), ("climb", ("same", B0, B0), start, "y", "u", ("equal", ("next", Y)), X), True)
+        self.check(("climb", ("same", B0, B0), start, "x", "u", turn, X),
+                   ("climb", ("same", B0, B0), start, "y", "u", ("equal", ("next", Y)), Y), False)
+        self.check(("climb", ("same", B0, B0), start, "x", "u", turn, X),
+                   ("climb", ("same", B0, B0), start, "y", "u", ("equal", ("next", Y)), X), True)
         some, other = (("such", ("same", B0, B0), ("name", x), equal(x)) for x in ("x", "y"))
         self.check(("open", some, "x", "u", equal("z")), ("open", other, "y", "u", equal("z")), False)
         self.check(("open", some, "x", "u", equal("z")), ("open", some, "y", "u", equal("z")), True)
 
     def test_closed_in_what_is_written_beside_the_grounds(self):
-        for one, other in [(("lets", "u", ("same", X, X), equal("y")), ("lets", "u", ("same", Z, Z), equal("y"))), (("this", equal("y"), A), ("this", equal("y"), put_for(A, "x", Z))),
-                           (("absurd", given("n", NO), A), ("absurd", given("n", NO), put_for(A, "x", Z))), (("sums", 1, X, Y), ("sums", 1, Z, Y)), (("sums", 3, Y, X), ("sums", 3, Y, Z)),
-                           (("at", given("p", ("all", B)), X), ("at", given("p", ("all", B)), Z)), (("put", ("equal", X), TRUE, ("equal", NOUGHT)), ("put", ("equal", Z), TRUE, ("equal", NOUGHT)))]:
+        for one, other in [(("lets", "u", ("same", X, X), equal("y")), ("lets", "u", ("same", Z, Z), equal("y"))),
+                           (("this", equal("y"), A), ("this", equal("y"), put_for(A, "x", Z))),
+                           (("absurd", given("n", NO), A), ("absurd", given("n", NO), put_for(A, "x", Z))),
+                           (("sums", 1, X, Y), ("sums", 1, Z, Y)), (("sums", 3, Y, X), ("sums", 3, Y, Z)),
+                           (("at", given("p", ("all", B)), X), ("at", given("p", ("all", B)), Z)),
+                           (("put", ("equal", X), TRUE, ("equal", NOUGHT)),
+                            ("put", ("equal", Z), TRUE, ("equal", NOUGHT)))]:
             self.check(("for", "x", one), ("for", "z", other), True)
             self.check(("for", "x", one), ("for", "x", other), False)
             self.check(one, other, False)
 
     def test_unlike_words_and_parts(self):
         x = equal("x")
-        rows = [x, ("both", x, x), ("first", ("both", x, x)), ("second", ("both", x, x)), ("this", x, A), ("this", x, B), ("that", A, x), ("sums", 0, X), ("sums", 2, X), ("sums", 1, X, Y), ("sums", 3, X, Y), ("sums", 1, Y, X), ("reckoned", ONE, ONE),
-                ("reckoned", NOUGHT, NOUGHT), ("equal", ("next", X)), ("equal", ("plus", X, X)), ("equal", ("times", X, X)), ("for", "x", x), ("for", "x", ("for", "x", x)), given("u", A), given("u", B), given("u", ("and", A, A)), given("u", ("or", A, A)),
-                given("u", ("all", ("all", ("same", B0, B0)))), given("u", ("all", ("all", ("same", B0, B1)))), ("lets", "u", A, x), ("lets", "u", B, x), ("such", ("same", B0, X), X, x), ("such", ("same", X, B0), X, x), ("such", ("same", B0, B0), X, x), ("put", x, ("same", X, B0), x), ("put", x, ("same", X, X), x)]
+        rows = [x, ("both", x, x), ("first", ("both", x, x)), ("second", ("both", x, x)), ("this", x, A),
+                ("this", x, B), ("that", A, x), ("sums", 0, X), ("sums", 2, X), ("sums", 1, X, Y), ("sums", 3, X, Y),
+                ("sums", 1, Y, X), ("reckoned", ONE, ONE),
+                ("reckoned", NOUGHT, NOUGHT), ("equal", ("next", X)), ("equal", ("plus", X, X)),
+                ("equal", ("times", X, X)), ("for", "x", x), ("for", "x", ("for", "x", x)), given("u", A),
+                given("u", B), given("u", ("and", A, A)), given("u", ("or", A, A)),
+                given("u", ("all", ("all", ("same", B0, B0)))), given("u", ("all", ("all", ("same", B0, B1)))),
+                ("lets", "u", A, x), ("lets", "u", B, x), ("such", ("same", B0, X), X, x),
+                ("such", ("same", X, B0), X, x), ("such", ("same", B0, B0), X, x), ("put", x, ("same", X, B0), x),
+                ("put", x, ("same", X, X), x)]
         for at, one in enumerate(rows):
             for to, other in enumerate(rows):
                 self.check(one, other, at == to)
@@ -226,34 +255,52 @@ class Named(Putting):
         ground = ("both", ("for", "x", equal("x")), equal("x"))
         self.assertEqual(self.check(ground, "x", t), ("both", ("for", "x", equal("x")), ("equal", t)))
         self.assertEqual(self.check(given("u", ("all", ("same", X, B0))), "x", t), given("u", ("all", ("same", t, B0))))
-        self.assertEqual(self.check(("such", ("same", B0, X), X, equal("x")), "x", t), ("such", ("same", B0, t), t, ("equal", t)))
+        self.assertEqual(self.check(("such", ("same", B0, X), X, equal("x")), "x", t),
+                         ("such", ("same", B0, t), t, ("equal", t)))
 
     def test_in_every_word(self):
         x = equal("x")
-        for ground in [given("u", A), ("lets", "u", A, x), ("lets", "u", A, given("u", A)), ("uses", given("i", ("if", A, A)), given("u", A)), ("both", x, x), ("first", ("both", x, x)), ("second", ("both", x, x)), ("this", x, A), ("that", A, x),
-                       ("cases", given("p", ("or", A, A)), "u", given("u", A), "v", given("v", A)), ("for", "z", equal("x", "z")), ("at", given("p", ("all", ("same", X, B0))), X), ("such", ("same", B0, X), X, x),
-                       ("open", given("p", ("some", ("same", X, B0))), "z", "u", ("such", ("same", X, B0), Z, given("u", ("same", X, Z)))), ("absurd", given("n", NO), A), ("put", x, ("same", B0, X), x), ("sums", 0, X), ("sums", 1, X, X), ("sums", 2, X),
-                       ("sums", 3, X, X), ("down", given("u", ("same", ("next", X), ("next", Y)))), ("never", given("u", ("same", ("next", X), NOUGHT))),
-                       ("climb", A, given("p", A), "z", "u", given("u", A), X), ("climb", ("same", ("plus", X, B0), ("plus", X, B0)), ("equal", ("plus", X, NOUGHT)), "z", "u", ("equal", ("plus", X, ("next", Z))), X),
+        for ground in [given("u", A), ("lets", "u", A, x), ("lets", "u", A, given("u", A)),
+                       ("uses", given("i", ("if", A, A)), given("u", A)), ("both", x, x), ("first", ("both", x, x)),
+                       ("second", ("both", x, x)), ("this", x, A), ("that", A, x),
+                       ("cases", given("p", ("or", A, A)), "u", given("u", A), "v", given("v", A)),
+                       ("for", "z", equal("x", "z")), ("at", given("p", ("all", ("same", X, B0))), X),
+                       ("such", ("same", B0, X), X, x),
+                       ("open", given("p", ("some", ("same", X, B0))), "z", "u",
+                        ("such", ("same", X, B0), Z, given("u", ("same", X, Z)))), ("absurd", given("n", NO), A),
+                        ("put", x, ("same", B0, X), x), ("sums", 0, X), ("sums", 1, X, X), ("sums", 2, X),
+                       ("sums", 3, X, X), ("down", given("u", ("same", ("next", X), ("next", Y)))),
+                       ("never", given("u", ("same", ("next", X), NOUGHT))),
+                       ("climb", A, given("p", A), "z", "u", given("u", A), X),
+                       ("climb", ("same", ("plus", X, B0), ("plus", X, B0)), ("equal", ("plus", X, NOUGHT)), "z", "u",
+                        ("equal", ("plus", X, ("next", Z))), X),
                        ("twice", given("u", ("if", ("if", A, NO), NO)))]:
             for term in (NOUGHT, ("next", X), Y, Z, ("plus", Z, ("times", X, Y))):
                 told = self.check(ground, "x", term)
                 self.assertNotEqual(told, ground)
-                self.assertEqual(open_names(told), sorted({*open_names(ground), *names_in(term)} - ({"x"} - set(names_in(term)))))
+                self.assertEqual(open_names(told),
+                                 sorted({*open_names(ground), *names_in(term)} - ({"x"} - set(names_in(term)))))
 
     def test_closed_names_that_stand_in_the_term(self):
-        for ground in [("for", "z", equal("x", "z")), ("for", "z", ("for", "y", equal("x", "y", "z"))), ("for", "z", ("both", ("for", "z", equal("z", "x")), equal("z", "x"))),
-                       ("open", given("p", ("some", ("same", B0, X))), "z", "u", ("such", ("same", B0, X), Z, given("u", ("same", Z, X)))),
+        for ground in [("for", "z", equal("x", "z")), ("for", "z", ("for", "y", equal("x", "y", "z"))),
+                       ("for", "z", ("both", ("for", "z", equal("z", "x")), equal("z", "x"))),
+                       ("open", given("p", ("some", ("same", B0, X))), "z", "u",
+                        ("such", ("same", B0, X), Z, given("u", ("same", Z, X)))),
                        # x stands in the saying of the first ground alone.
-                       ("open", given("p", ("some", ("same", B0, X))), "z", "u", ("equal", NOUGHT)), ("open", ("such", ("same", B0, B0), X, equal("x")), "z", "u", ("equal", NOUGHT)),
-                       ("climb", ("same", ("plus", X, B0), ("plus", X, B0)), ("equal", ("plus", X, NOUGHT)), "z", "u", ("equal", ("plus", X, ("next", Z))), Z),
-                       ("climb", A, given("p", A), "z", "u", given("u", A), NOUGHT), ("climb", A, given("p", A), "z", "u", given("p", A), X), ("for", "z", given("u", A)), ("for", "z", ("second", ("both", given("u", A), equal("z")))),
+                       ("open", given("p", ("some", ("same", B0, X))), "z", "u", ("equal", NOUGHT)),
+                       ("open", ("such", ("same", B0, B0), X, equal("x")), "z", "u", ("equal", NOUGHT)),
+                       ("climb", ("same", ("plus", X, B0), ("plus", X, B0)), ("equal", ("plus", X, NOUGHT)), "z", "u",
+                        ("equal", ("plus", X, ("next", Z))), Z),
+                       ("climb", A, given("p", A), "z", "u", given("u", A), NOUGHT),
+                       ("climb", A, given("p", A), "z", "u", given("p", A), X), ("for", "z", given("u", A)),
+                       ("for", "z", ("second", ("both", given("u", A), equal("z")))),
                        ("climb", A, ("first", ("both", given("p", A), equal("z"))), "z", "u", given("u", A), Z)]:
             for term in (Z, ("next", Z), ("plus", Z, Y), ("plus", X, Z)):
                 self.check(ground, "x", term)
 
     def test_a_name_that_stands_in_its_own_term(self):
-        for ground in [equal("x"), ("both", ("for", "x", equal("x")), equal("x")), ("for", "y", ("both", equal("x", "y"), ("for", "x", equal("x", "y"))))]:
+        for ground in [equal("x"), ("both", ("for", "x", equal("x")), equal("x")),
+                       ("for", "y", ("both", equal("x", "y"), ("for", "x", equal("x", "y"))))]:
             for term in (X, ("next", X), ("plus", X, Y)):
                 self.check(ground, "x", term)
         self.assertIs(alike(named(equal("x"), "x", X), equal("x")), True)
@@ -265,7 +312,8 @@ class Named(Putting):
         ground = equal(*longest, *letters)
         for name in [*longest[:5], "zzzzzzzz", "azzzzzzz"]:
             ground = ("for", name, ground)
-        told = self.check(ground, "x", ("plus", ("name", "aaaaaaaa"), ("plus", ("name", "zzzzzzzz"), ("plus", ("name", "azzzzzzz"), ("name", "bbbbbbbb")))))
+        told = self.check(ground, "x", ("plus", ("name", "aaaaaaaa"), ("plus", ("name", "zzzzzzzz"),
+            ("plus", ("name", "azzzzzzz"), ("name", "bbbbbbbb")))))
         grounded(told)
         closed = []
         while told[0] == "for":
@@ -287,12 +335,17 @@ class Named(Putting):
         self.assertEqual(nameless(told), nameless(ground, put={("name", "x"): term}))
 
     def test_a_name_that_is_not_open(self):
-        for ground in [equal("y"), ("for", "x", equal("x", "y")), ("equal", NOUGHT), ("lets", "x", NO, given("x", NO)), ("for", "z", equal("z", "y"))]:
+        for ground in [equal("y"), ("for", "x", equal("x", "y")), ("equal", NOUGHT), ("lets", "x", NO, given("x", NO)),
+                       ("for", "z", equal("z", "y"))]:
             self.assertEqual(named(ground, "x", ("plus", Y, Z)), ground)
 
     def test_refused(self):
-        for ground, place, word in [(None, (), "form"), (("first", equal("x")), (), "saying"), (("both", equal("x"), ("reckoned", ONE, NOUGHT)), (1,), "number"), (("for", "x", given("u", A)), (), "name"),
-                                    (("both", given("u", A), given("u", B)), (), "given"), (("equal", bush("plus", X, 200)), (), "size"), (bush("both", equal("x"), 1001), (), "form")]:
+        for ground, place, word in [(None, (), "form"), (("first", equal("x")), (), "saying"),
+                                    (("both", equal("x"), ("reckoned", ONE, NOUGHT)), (1,), "number"),
+                                    (("for", "x", given("u", A)), (), "name"),
+                                    (("both", given("u", A), given("u", B)), (), "given"),
+                                    (("equal", bush("plus", X, 200)), (), "size"),
+                                    (bush("both", equal("x"), 1001), (), "form")]:
             for name in ("x", "q"):
                 self.assertEqual(self.refused(named, ground, name, Y), (place, word))
 
@@ -325,14 +378,16 @@ class Supplied(Putting):
         due = {word: needs for word, needs in givens if word != label}
         due.update(dict(grounded(other)[1]))
         self.assertEqual(grounded(told), (saying, tuple(sorted(due.items()))), (ground, label, other))
-        self.assertEqual(nameless(told), nameless(ground, put={("label", label): nameless(other)}), (ground, label, other))
+        self.assertEqual(nameless(told), nameless(ground, put={("label", label): nameless(other)}),
+                         (ground, label, other))
         return told
 
     def test_wherever_it_is_open(self):
         other = ("second", given("w", ("and", B, A)))
         self.assertEqual(self.check(given("u", A), "u", other), other)
         self.assertEqual(self.check(("both", given("u", A), given("v", B)), "u", other), ("both", other, given("v", B)))
-        self.assertEqual(self.check(("both", given("u", A), ("this", given("u", A), NO)), "u", other), ("both", other, ("this", other, NO)))
+        self.assertEqual(self.check(("both", given("u", A), ("this", given("u", A), NO)), "u", other),
+                         ("both", other, ("this", other, NO)))
         ground = ("both", ("lets", "u", A, given("u", A)), given("u", A))
         self.assertEqual(self.check(ground, "u", other), ("both", ("lets", "u", A, given("u", A)), other))
         # Closed for another saying, it is another one.
@@ -341,32 +396,43 @@ class Supplied(Putting):
 
     def test_closed_labels_that_are_open_in_the_second(self):
         other = ("second", ("both", given("w", B), given("v", A)))
-        for ground in [("lets", "w", B, given("u", A)), ("lets", "w", A, ("both", given("w", A), given("u", A))), ("lets", "w", NO, ("lets", "v", NO, ("both", given("u", A), ("both", given("w", NO), given("v", NO))))),
-                       ("cases", given("p", ("or", B, NO)), "w", ("second", ("both", given("w", B), given("u", A))), "v", ("second", ("both", given("v", NO), given("u", A)))),
-                       ("open", given("p", ("some", ("same", B0, Y))), "z", "w", ("second", ("both", given("w", ("same", Z, Y)), given("u", A)))),
-                       ("climb", A, given("u", A), "z", "w", ("second", ("both", given("w", A), given("u", A))), Y), ("climb", A, given("q", A), "z", "v", ("first", ("both", given("u", A), given("v", A))), Y)]:
+        for ground in [("lets", "w", B, given("u", A)), ("lets", "w", A, ("both", given("w", A), given("u", A))),
+                       ("lets", "w", NO, ("lets", "v", NO, ("both", given("u", A),
+                                                            ("both", given("w", NO), given("v", NO))))),
+                       ("cases", given("p", ("or", B, NO)), "w", ("second", ("both", given("w", B), given("u", A))),
+                        "v", ("second", ("both", given("v", NO), given("u", A)))),
+                       ("open", given("p", ("some", ("same", B0, Y))), "z", "w",
+                        ("second", ("both", given("w", ("same", Z, Y)), given("u", A)))),
+                       ("climb", A, given("u", A), "z", "w", ("second", ("both", given("w", A), given("u", A))), Y),
+                       ("climb", A, given("q", A), "z", "v", ("first", ("both", given("u", A), given("v", A))), Y)]:
             self.check(ground, "u", other)
 
     def test_closed_names_that_are_open_in_the_second(self):
         first = ("first", ("both", given("w", NO), equal("z", "y")))
         inner = ("put", ("equal", Z), NO, given("w", NO))
         for other in [first, inner, ("first", ("both", given("w", NO), ("equal", Z)))]:
-            for ground in [("for", "z", given("u", NO)), ("for", "z", ("both", equal("z"), given("u", NO))), ("for", "y", ("for", "z", ("both", equal("z", "y"), given("u", NO)))),
-                           ("open", given("p", ("some", ("same", B0, X))), "z", "v", ("both", given("u", NO), ("such", ("same", B0, X), Z, given("v", ("same", Z, X))))),
-                           ("climb", ("or", NO, ("same", B0, B0)), ("this", given("u", NO), ("same", NOUGHT, NOUGHT)), "z", "v", ("this", given("u", NO), ("same", ("next", Z), ("next", Z))), Y)]:
+            for ground in [("for", "z", given("u", NO)), ("for", "z", ("both", equal("z"), given("u", NO))),
+                           ("for", "y", ("for", "z", ("both", equal("z", "y"), given("u", NO)))),
+                           ("open", given("p", ("some", ("same", B0, X))), "z", "v",
+                            ("both", given("u", NO), ("such", ("same", B0, X), Z, given("v", ("same", Z, X))))),
+                           ("climb", ("or", NO, ("same", B0, B0)), ("this", given("u", NO), ("same", NOUGHT, NOUGHT)),
+                            "z", "v", ("this", given("u", NO), ("same", ("next", Z), ("next", Z))), Y)]:
                 self.check(ground, "u", other)
 
     def test_a_name_that_stands_in_the_givens_of_the_second(self):
         # z is closed in the first where it stands nowhere: with the second's given it would stand there.
         other = ("first", ("both", given("m", NO), given("w", ("same", Z, Z))))
-        for ground in [("for", "z", given("u", NO)), ("open", given("p", SOME), "z", "v", given("u", NO)), ("climb", NO, given("u", NO), "z", "v", given("u", NO), Y), ("for", "z", ("both", given("u", NO), equal("z")))]:
+        for ground in [("for", "z", given("u", NO)), ("open", given("p", SOME), "z", "v", given("u", NO)),
+                       ("climb", NO, given("u", NO), "z", "v", given("u", NO), Y),
+                       ("for", "z", ("both", given("u", NO), equal("z")))]:
             self.check(ground, "u", other)
 
     def test_the_own_label_in_the_second(self):
         self.check(given("u", A), "u", given("u", A))
         self.check(given("u", A), "u", ("first", given("u", ("and", A, B))))
         self.check(("both", given("u", A), ("lets", "u", B, given("u", B))), "u", ("first", given("u", ("and", A, B))))
-        self.check(("lets", "v", NO, ("both", given("u", A), given("v", NO))), "u", ("first", ("both", given("v", A), given("u", NO))))
+        self.check(("lets", "v", NO, ("both", given("u", A), given("v", NO))), "u",
+                   ("first", ("both", given("v", A), given("u", NO))))
 
     def test_words_that_are_hard_to_find(self):
         letters = list("abcdefghijklmnopqrstuvwxyz")
@@ -374,7 +440,8 @@ class Supplied(Putting):
         ground = other = given("zz", NO)
         rows = [given(word, A) for word in longest + letters]
         while len(rows) > 1:
-            rows = [("both", rows[k], rows[k + 1]) for k in range(0, len(rows) - 1, 2)] + rows[len(rows) - len(rows) % 2:]
+            rows = [("both", rows[k], rows[k + 1]) for k in range(0, len(rows) - 1,
+                2)] + rows[len(rows) - len(rows) % 2:]
         ground = ("second", ("both", rows[0], ground))
         for word in longest[:6]:
             other = ("second", ("both", given(word, A), other))
@@ -401,12 +468,14 @@ class Supplied(Putting):
         self.assertEqual(self.refused(supplied, wrong, "q", worse), ((1,), "saying"))
 
     def test_another_saying(self):
-        for ground, other in [(given("u", A), given("w", B)), (("both", given("v", B), ("this", given("u", A), NO)), ("equal", NOUGHT)), (("lets", "v", B, given("u", A)), given("v", B))]:
+        for ground, other in [(given("u", A), given("w", B)), (("both", given("v", B), ("this", given("u", A), NO)),
+            ("equal", NOUGHT)), (("lets", "v", B, given("u", A)), given("v", B))]:
             self.assertEqual(self.refused(supplied, ground, "u", other), ((), "saying"))
 
     def test_two_sayings_for_a_label(self):
         other = ("first", given("v", ("and", A, B)))
-        for ground in [("both", given("u", A), given("v", B)), ("both", given("v", A), given("u", A)), ("lets", "w", NO, ("both", given("u", A), given("v", NO)))]:
+        for ground in [("both", given("u", A), given("v", B)), ("both", given("v", A), given("u", A)),
+                       ("lets", "w", NO, ("both", given("u", A), given("v", NO)))]:
             self.assertEqual(self.refused(supplied, ground, "u", other), ((), "given"))
         self.check(("both", given("u", A), given("v", ("and", A, B))), "u", other)
         self.check(("both", given("u", A), ("lets", "v", B, given("v", B))), "u", other)

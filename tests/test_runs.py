@@ -48,27 +48,37 @@ class IsWorth(unittest.TestCase):
     def test_pairs(self):
         for thing in ((0, 0), (3, LAST)):
             self.assertIs(is_worth(PAIR, thing), True)
-        for thing in ((), (0,), (0, 0, 0), [0, 0], (0, None), (None, 0), (True, 0), (0, False), (0, -1), (GREAT, 0), 0, None, "ab", "00",
+        for thing in ((), (0,), (0, 0, 0), [0, 0], (0, None), (None, 0), (True, 0), (0, False), (0, -1), (GREAT, 0), 0,
+                      None, "ab", "00",
                       ("this", 0), (0, (0,)), ((0, 0), 0), {}):
             self.assertIs(is_worth(PAIR, thing), False, thing)
 
     def test_eithers(self):
-        for kind, thing in [(EITHER, ("this", 0)), (EITHER, ("that", None)), (("either", NONE, NONE), ("this", None)), (("either", NONE, PAIR), ("that", (1, 2))),
+        for kind, thing in [(EITHER, ("this", 0)), (EITHER, ("that", None)), (("either", NONE, NONE), ("this", None)),
+                            (("either", NONE, PAIR), ("that", (1, 2))),
                             (("either", EITHER, NONE), ("this", ("this", 4)))]:
             self.assertIs(is_worth(kind, thing), True, thing)
-        for thing in [("this", None), ("that", 0), ("This", 0), ("these", 0), ("this",), ("this", 0, 0), ["this", 0], ("", 0), (0, 0), (None, None), "this", None, 0,
-                      ("that", ()), ("this", True), (("this",), 0), (["this"], 0), ("this", ("this", 0)), ("that", ("that", None)), (), ("th", "is")]:
+        for thing in [("this", None), ("that", 0), ("This", 0), ("these", 0), ("this",), ("this", 0, 0), ["this", 0],
+                      ("", 0), (0, 0), (None, None), "this", None, 0,
+                      ("that", ()), ("this", True), (("this",), 0), (["this"], 0), ("this", ("this", 0)),
+                      ("that", ("that", None)), (), ("th", "is")]:
             self.assertIs(is_worth(EITHER, thing), False, thing)
 
     def test_within_one_another(self):
         kind = ("pair", ("either", PAIR, NONE), ("pair", NUMBER, ("either", NONE, NUMBER)))
-        for thing, due in [((("this", (1, 2)), (3, ("that", 4))), True), ((("that", None), (0, ("this", None))), True), ((("that", (1, 2)), (3, ("that", 4))), False),
-                           ((("this", (1, True)), (3, ("that", 4))), False), ((("this", (1, 2)), (3, ("this", 4))), False), ((("this", (1, 2)), (None, ("that", 4))), False),
-                           (((3, ("that", 4)), ("this", (1, 2))), False), ((("this", (1, 2)), [3, ("that", 4)]), False)]:
+        for thing, due in [((("this", (1, 2)), (3, ("that", 4))), True), ((("that", None), (0, ("this", None))), True),
+                           ((("that", (1, 2)), (3, ("that", 4))), False),
+                           ((("this", (1, True)), (3, ("that", 4))), False),
+                           ((("this", (1, 2)), (3, ("this", 4))), False),
+                           ((("this", (1, 2)), (None, ("that", 4))), False),
+                           (((3, ("that", 4)), ("this", (1, 2))), False),
+                           ((("this", (1, 2)), [3, ("that", 4)]), False)]:
             self.assertIs(is_worth(kind, thing), due, thing)
 
     def test_things_of_every_sort(self):
-        for thing in [thing for thing in ODD if thing not in (0, 1, GREAT, (0, 0)) or thing is True or thing is False] + [nested(0, 299, tuple), nested(None, 299, list), (0,) * 100000, shared(0, 0, 200)]:
+        for thing in [thing for thing in ODD if thing not in (0, 1, GREAT,
+            (0, 0)) or thing is True or thing is False] + [nested(0, 299, tuple), nested(None, 299, list),
+                                                           (0,) * 100000, shared(0, 0, 200)]:
             for kind in (NUMBER, PAIR, EITHER, ("pair", EITHER, PAIR), ("either", PAIR, PAIR)):
                 self.assertIs(is_worth(kind, thing), False, kind)
                 self.assertIs(is_worth(("pair", NUMBER, kind), (0, thing)), False)
@@ -96,16 +106,23 @@ PAIRED = ("pair", num(4), ("pair", num(5), ("this", num(6), NONE)))
 
 # Programs, the numbers they are run for, their worth and the steps it takes.
 RUNS = [
-    (NOTHING, {}, None, 1), (num(7), {}, 7, 1), (num(LAST), {}, LAST, 1), (X, {"x": 4}, 4, 1), (("next", X), {"x": 4}, 5, 2),
-    (("plus", X, Y), {"x": 4, "y": 6}, 10, 3), (("times", X, ("next", Y)), {"x": 4, "y": 6}, 28, 4), (("times", num(0), X), {"x": LAST}, 0, 3),
-    (("call", ("lets", "u", NUMBER, ("next", known("u"))), num(3)), {}, 4, 5), (("call", DOUBLE, num(3)), {}, 6, 6), (("call", DOUBLE, X), {"x": 5}, 10, 6),
-    (("pair", X, num(2)), {"x": 1}, (1, 2), 3), (PAIRED, {}, (4, (5, ("this", 6))), 6), (("first", PAIRED), {}, 4, 7), (("second", PAIRED), {}, (5, ("this", 6)), 7),
+    (NOTHING, {}, None, 1), (num(7), {}, 7, 1), (num(LAST), {}, LAST, 1), (X, {"x": 4}, 4, 1),
+    (("next", X), {"x": 4}, 5, 2),
+    (("plus", X, Y), {"x": 4, "y": 6}, 10, 3), (("times", X, ("next", Y)), {"x": 4, "y": 6}, 28, 4),
+    (("times", num(0), X), {"x": LAST}, 0, 3),
+    (("call", ("lets", "u", NUMBER, ("next", known("u"))), num(3)), {}, 4, 5), (("call", DOUBLE, num(3)), {}, 6, 6),
+    (("call", DOUBLE, X), {"x": 5}, 10, 6),
+    (("pair", X, num(2)), {"x": 1}, (1, 2), 3), (PAIRED, {}, (4, (5, ("this", 6))), 6), (("first", PAIRED), {}, 4, 7),
+    (("second", PAIRED), {}, (5, ("this", 6)), 7),
     (("parts", PAIRED, "x", "u", ("plus", X, ("first", known("u", ("pair", NUMBER, EITHER))))), {}, 9, 11),
     (("this", num(1), NONE), {}, ("this", 1), 2), (("that", NUMBER, NOTHING), {}, ("that", None), 2),
-    (("cases", ("this", num(1), NONE), "u", known("u"), "v", num(9)), {}, 1, 4), (("cases", ("that", NUMBER, NOTHING), "u", known("u"), "v", num(9)), {}, 9, 4),
+    (("cases", ("this", num(1), NONE), "u", known("u"), "v", num(9)), {}, 1, 4),
+    (("cases", ("that", NUMBER, NOTHING), "u", known("u"), "v", num(9)), {}, 9, 4),
     (("cases", ("that", NUMBER, num(5)), "u", num(0), "v", ("next", known("v"))), {}, 6, 5),
-    (("climb", num(5), "x", "u", known("u"), num(0)), {}, 5, 3), (("climb", num(5), "x", "u", ("next", known("u")), num(3)), {}, 8, 9),
-    (("climb", num(0), "x", "u", ("plus", X, known("u")), num(5)), {}, 10, 18), (("climb", num(1), "x", "u", ("times", ("next", X), known("u")), num(5)), {}, 120, 23),
+    (("climb", num(5), "x", "u", known("u"), num(0)), {}, 5, 3),
+    (("climb", num(5), "x", "u", ("next", known("u")), num(3)), {}, 8, 9),
+    (("climb", num(0), "x", "u", ("plus", X, known("u")), num(5)), {}, 10, 18),
+    (("climb", num(1), "x", "u", ("times", ("next", X), known("u")), num(5)), {}, 120, 23),
     (("climb", num(9), "x", "u", X, num(4)), {}, 3, 7), (("climb", X, "x", "u", ("plus", X, X), X), {"x": 3}, 4, 12),
 ]
 
@@ -151,14 +168,16 @@ class Runs(unittest.TestCase):
 
     def test_all_else_is_gone_into(self):
         great = ("next", num(LAST))
-        for program in [("first", ("pair", num(1), great)), ("second", ("pair", great, num(1))), ("call", ("for", "x", num(1)), great),
+        for program in [("first", ("pair", num(1), great)), ("second", ("pair", great, num(1))),
+                        ("call", ("for", "x", num(1)), great),
                         ("climb", great, "x", "u", num(1), num(1)), ("times", num(0), great), ("times", great, num(0)),
                         ("parts", ("pair", num(0), great), "x", "u", X), ("climb", num(0), "x", "u", num(1), great)]:
             with self.assertRaises(TooMany):
                 run(program, {})
 
     def test_numbers_that_are_too_great(self):
-        for program in [("next", num(LAST)), ("plus", num(LAST), num(1)), ("plus", num(1), num(LAST)), ("times", num(LAST), num(2)), ("times", num(10 ** 30), num(10 ** 30))]:
+        for program in [("next", num(LAST)), ("plus", num(LAST), num(1)), ("plus", num(1), num(LAST)),
+                        ("times", num(LAST), num(2)), ("times", num(10 ** 30), num(10 ** 30))]:
             with self.assertRaises(TooMany):
                 run(program, {})
         self.assertEqual(run(("next", num(LAST - 1)), {}), LAST)
@@ -180,12 +199,17 @@ class Runs(unittest.TestCase):
     def test_what_was_known_and_named_stands(self):
         # A for that is made where x is 1 and called where it is 2.
         add = ("for", "y", ("plus", ("times", num(10), X), Y))
-        program = ("call", ("for", "x", ("call", ("lets", "f", FROM, ("call", ("for", "x", ("call", known("f", FROM), X)), num(2))), add)), num(1))
+        program = ("call", ("for", "x", ("call", ("lets", "f", FROM,
+                                                  ("call", ("for", "x", ("call", known("f", FROM), X)), num(2))),
+                                                  add)), num(1))
         self.assertEqual(run(program, {}), 12)
         self.assertEqual(run(program, {"x": 7}), 12)
         # A lets that is made where u is 1 and called where it is 2.
         keep = ("lets", "v", NUMBER, ("plus", ("times", num(10), known("u")), known("v")))
-        program = ("call", ("lets", "u", NUMBER, ("call", ("lets", "f", FROM, ("call", ("lets", "u", NUMBER, ("call", known("f", FROM), known("u"))), num(2))), keep)), num(1))
+        program = ("call", ("lets", "u", NUMBER, ("call",
+                                                  ("lets", "f", FROM, ("call",
+                                                      ("lets", "u", NUMBER, ("call", known("f", FROM), known("u"))),
+                                                      num(2))), keep)), num(1))
         self.assertEqual(run(program, {}), 12)
 
     def test_what_is_closed_stands_there_alone(self):
@@ -195,11 +219,16 @@ class Runs(unittest.TestCase):
         self.assertEqual(run(program, {"x": 1}), (15, 1))
         program = ("plus", ("climb", X, "x", "u", ("plus", X, known("u")), X), X)
         self.assertEqual(run(program, {"x": 4}), 4 + 6 + 4)
-        program = ("call", ("lets", "u", NUMBER, ("plus", ("cases", ("this", num(3), NONE), "u", known("u"), "v", num(0)), known("u"))), num(5))
+        program = ("call", ("lets", "u", NUMBER, ("plus",
+                                                  ("cases", ("this", num(3), NONE), "u", known("u"), "v", num(0)),
+                                                  known("u"))), num(5))
         self.assertEqual(run(program, {}), 8)
-        program = ("call", ("lets", "u", NUMBER, ("plus", ("cases", ("that", NONE, num(3)), "v", num(0), "u", known("u")), known("u"))), num(5))
+        program = ("call", ("lets", "u", NUMBER, ("plus",
+                                                  ("cases", ("that", NONE, num(3)), "v", num(0), "u", known("u")),
+                                                  known("u"))), num(5))
         self.assertEqual(run(program, {}), 8)
-        program = ("call", ("lets", "u", NUMBER, ("plus", ("climb", num(0), "x", "u", ("next", known("u")), num(2)), known("u"))), num(5))
+        program = ("call", ("lets", "u", NUMBER, ("plus", ("climb", num(0), "x", "u", ("next", known("u")), num(2)),
+                                                  known("u"))), num(5))
         self.assertEqual(run(program, {}), 7)
 
     def test_turns_of_a_for_that_is_told(self):
@@ -223,7 +252,8 @@ class Runs(unittest.TestCase):
     def test_worths_far_within_one_another(self):
         either = ("either", NUMBER, NUMBER)
         start = ("this", num(0), NUMBER)
-        program = ("climb", start, "x", "u", ("cases", known("u", either), "v", ("that", NUMBER, ("next", known("v"))), "w", ("this", ("next", known("w")), NUMBER)), num(2001))
+        program = ("climb", start, "x", "u", ("cases", known("u", either), "v", ("that", NUMBER, ("next", known("v"))),
+                                              "w", ("this", ("next", known("w")), NUMBER)), num(2001))
         self.assertEqual(run(program, {}), ("that", 2001))
 
     def test_programs_of_the_greatest_size(self):
@@ -255,23 +285,31 @@ class Refusals(unittest.TestCase):
         return held.exception
 
     def test_no_program(self):
-        for thing, place in [(None, ()), ([], ()), (("next", NOTHING), ()), (("pair", num(1), ("next", NOTHING)), (1,)), (("next", ("num", True)), (0,))]:
+        for thing, place in [(None, ()), ([], ()), (("next", NOTHING), ()),
+                             (("pair", num(1), ("next", NOTHING)), (1,)), (("next", ("num", True)), (0,))]:
             self.assertEqual(self.refused(NoProgram, thing, {}).place, place)
 
     def test_knowns_that_are_open(self):
-        for program in [known("u"), ("next", known("u")), ("pair", num(1), ("next", known("u"))), ("call", ("lets", "v", NUMBER, known("u")), num(1)), known("u", NONE)]:
+        for program in [known("u"), ("next", known("u")), ("pair", num(1), ("next", known("u"))),
+                        ("call", ("lets", "v", NUMBER, known("u")), num(1)), known("u", NONE)]:
             self.assertEqual(self.refused(NoProgram, program, {}).place, ())
 
     def test_a_from(self):
-        for program, kind in [(DOUBLE, FROM), (("lets", "u", NUMBER, num(0)), FROM), (("pair", num(0), DOUBLE), ("pair", NUMBER, FROM)),
-                              (("this", num(0), FROM), ("either", NUMBER, FROM)), (("that", ("pair", NUMBER, FROM), NOTHING), ("either", ("pair", NUMBER, FROM), NONE)),
-                              (("pair", DOUBLE, num(0)), ("pair", FROM, NUMBER)), (("pair", DOUBLE, DOUBLE), ("pair", FROM, FROM))]:
+        for program, kind in [(DOUBLE, FROM), (("lets", "u", NUMBER, num(0)), FROM),
+                              (("pair", num(0), DOUBLE), ("pair", NUMBER, FROM)),
+                              (("this", num(0), FROM), ("either", NUMBER, FROM)),
+                              (("that", ("pair", NUMBER, FROM), NOTHING), ("either", ("pair", NUMBER, FROM), NONE)),
+                              (("pair", DOUBLE, num(0)), ("pair", FROM, NUMBER)),
+                              (("pair", DOUBLE, DOUBLE), ("pair", FROM, FROM))]:
             self.assertEqual(self.refused(NoWorth, program, {}).thing, kind)
 
     def test_a_name_without_number(self):
-        for program, numbers, name in [(X, {}, "x"), (("plus", Y, X), {}, "x"), (("plus", Y, X), {"x": 1}, "y"), (("plus", X, Y), {"y": 1}, "x"),
-                                       (("cases", ("this", num(0), NONE), "u", num(1), "v", X), {}, "x"), (("call", ("for", "x", X), Y), {"x": 1}, "y"),
-                                       (("climb", num(0), "x", "u", Y, num(0)), {}, "y"), (("plus", ("name", "b"), ("name", "ab")), {}, "ab")]:
+        for program, numbers, name in [(X, {}, "x"), (("plus", Y, X), {}, "x"), (("plus", Y, X), {"x": 1}, "y"),
+                                       (("plus", X, Y), {"y": 1}, "x"),
+                                       (("cases", ("this", num(0), NONE), "u", num(1), "v", X), {}, "x"),
+                                       (("call", ("for", "x", X), Y), {"x": 1}, "y"),
+                                       (("climb", num(0), "x", "u", Y, num(0)), {}, "y"),
+                                       (("plus", ("name", "b"), ("name", "ab")), {}, "ab")]:
             self.assertEqual(self.refused(NoNumber, program, numbers).name, name)
 
     def test_names_that_are_not_open_need_no_number(self):
@@ -285,7 +323,8 @@ class Refusals(unittest.TestCase):
         opened = ("pair", DOUBLE, ("plus", known("u"), ("plus", X, great)))
         self.assertEqual(self.refused(NoProgram, ("pair", opened, wrong), {}, limit=0).place, (1,))
         self.assertEqual(self.refused(NoProgram, opened, {}, limit=0).place, ())
-        self.assertEqual(self.refused(NoWorth, ("pair", DOUBLE, ("plus", X, great)), {}, limit=0).thing, ("pair", FROM, NUMBER))
+        self.assertEqual(self.refused(NoWorth, ("pair", DOUBLE, ("plus", X, great)), {}, limit=0).thing,
+                         ("pair", FROM, NUMBER))
         self.assertEqual(self.refused(NoNumber, ("plus", great, X), {}, limit=0).name, "x")
         self.refused(TooMany, ("plus", great, X), {"x": 0}, limit=0)
 

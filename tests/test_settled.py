@@ -21,14 +21,21 @@ SOME = ("some", ("same", B0, TWO))
 OR = ("or", TRUE, FALSE)
 
 TRUE_ONES = [
-    TRUE, ("same", ("plus", ONE, ONE), TWO), ("same", ("times", TWO, ("num", 3)), ("next", ("num", 5))), ("same", GREATEST, ("plus", GREATEST, NOUGHT)),
-    ("and", TRUE, TRUE), ("if", TRUE, TRUE), ("if", FALSE, FALSE), ("if", FALSE, TRUE), ("if", NO, NO), ("if", NO, TRUE), ("and", ("if", NO, FALSE), TRUE),
-    ("if", ("and", TRUE, FALSE), NO), ("if", ("and", FALSE, TRUE), NO), ("if", ("if", TRUE, FALSE), FALSE), ("if", ("if", TRUE, NO), ("and", NO, NO)), ("if", ("if", ("if", FALSE, NO), NO), NO),
+    TRUE, ("same", ("plus", ONE, ONE), TWO), ("same", ("times", TWO, ("num", 3)), ("next", ("num", 5))),
+    ("same", GREATEST, ("plus", GREATEST, NOUGHT)),
+    ("and", TRUE, TRUE), ("if", TRUE, TRUE), ("if", FALSE, FALSE), ("if", FALSE, TRUE), ("if", NO, NO),
+    ("if", NO, TRUE), ("and", ("if", NO, FALSE), TRUE),
+    ("if", ("and", TRUE, FALSE), NO), ("if", ("and", FALSE, TRUE), NO), ("if", ("if", TRUE, FALSE), FALSE),
+    ("if", ("if", TRUE, NO), ("and", NO, NO)), ("if", ("if", ("if", FALSE, NO), NO), NO),
 ]
 FALSE_ONES = [
-    FALSE, ("same", ONE, NOUGHT), ("same", ("num", 5), ("num", 3)), ("same", ("num", 3), ("num", 5)), ("same", GREATEST, NOUGHT), ("same", NOUGHT, GREATEST), ("same", GREATEST, ("num", GREAT - 2)),
-    ("same", ("plus", ONE, ("num", 10 ** 50)), ("times", TWO, ("num", 10 ** 49))), ("same", ("next", ("next", NOUGHT)), ONE), NO, ("and", TRUE, FALSE), ("and", FALSE, TRUE), ("and", FALSE, FALSE), ("and", NO, TRUE), ("and", TRUE, NO),
-    ("if", TRUE, FALSE), ("if", TRUE, NO), ("if", ("if", FALSE, NO), NO), ("and", ("if", NO, NO), ("if", TRUE, FALSE)), ("if", ("and", TRUE, TRUE), ("and", TRUE, FALSE)),
+    FALSE, ("same", ONE, NOUGHT), ("same", ("num", 5), ("num", 3)), ("same", ("num", 3), ("num", 5)),
+    ("same", GREATEST, NOUGHT), ("same", NOUGHT, GREATEST), ("same", GREATEST, ("num", GREAT - 2)),
+    ("same", ("plus", ONE, ("num", 10 ** 50)), ("times", TWO, ("num", 10 ** 49))),
+    ("same", ("next", ("next", NOUGHT)), ONE), NO, ("and", TRUE, FALSE), ("and", FALSE, TRUE), ("and", FALSE, FALSE),
+    ("and", NO, TRUE), ("and", TRUE, NO),
+    ("if", TRUE, FALSE), ("if", TRUE, NO), ("if", ("if", FALSE, NO), NO), ("and", ("if", NO, NO), ("if", TRUE, FALSE)),
+    ("if", ("and", TRUE, TRUE), ("and", TRUE, FALSE)),
 ]
 
 
@@ -68,10 +75,12 @@ class Settled(Grounds):
         for n in range(5):
             for m in range(5):
                 self.check_settled(("same", ("num", n), ("num", m)))
-                self.check_settled(("same", ("plus", ("num", n), ("num", m)), ("times", ("num", m), ("next", ("num", n)))))
+                self.check_settled(("same", ("plus", ("num", n), ("num", m)),
+                                    ("times", ("num", m), ("next", ("num", n)))))
 
     def test_too_many(self):
-        for saying in [MANY, ("same", NOUGHT, ("next", GREATEST)), ("and", NO, MANY), ("and", FALSE, MANY), ("if", NO, MANY), ("if", MANY, TRUE), ("if", TRUE, ("and", NO, MANY)),
+        for saying in [MANY, ("same", NOUGHT, ("next", GREATEST)), ("and", NO, MANY), ("and", FALSE, MANY),
+                       ("if", NO, MANY), ("if", MANY, TRUE), ("if", TRUE, ("and", NO, MANY)),
                        ("same", ("times", NOUGHT, ("next", GREATEST)), NOUGHT)]:
             with self.assertRaises(TooMany):
                 settled(saying)
@@ -100,7 +109,8 @@ class Settled(Grounds):
 
     def test_greater_ones(self):
         # What is told may be greater: but each equation is settled by what isn't.
-        for saying in [("same", bush("plus", ONE, 199), ("num", 3)), ("same", ("num", 3), bush("plus", ONE, 199)), ("same", bush("plus", ONE, 100), ("next", bush("plus", TWO, 99)))]:
+        for saying in [("same", bush("plus", ONE, 199), ("num", 3)), ("same", ("num", 3), bush("plus", ONE, 199)),
+                       ("same", bush("plus", ONE, 100), ("next", bush("plus", TWO, 99)))]:
             word, ground = settled(saying)
             self.assertEqual((word, ground[:3]), ("no", ("lets", "u", saying)))
         self.assertEqual(settled(bush("and", TRUE, 100))[0], "yes")
@@ -119,10 +129,15 @@ class ShownBy(Grounds):
 
     def test_every_word(self):
         for saying, worth in [
-            (TRUE, None), (("and", TRUE, ("if", FALSE, NO)), None), (OR, ("this", None)), (("or", FALSE, TRUE), ("that", None)), (("or", SOME, NO), ("this", 2)), (("or", OR, SOME), ("this", ("this", None))), (("or", OR, SOME), ("that", 2)),
-            (SOME, 2), (("some", TRUE), 7), (("some", ("some", ("same", B1, ("next", B0)))), (5, 4)), (("some", ("or", ("same", B0, ONE), ("same", B0, TWO))), (2, ("that", None))),
-            (("and", SOME, TRUE), 2), (("and", TRUE, SOME), 2), (("and", SOME, OR), (2, ("this", None))), (("and", ("and", SOME, TRUE), ("and", SOME, SOME)), (2, (2, 2))),
-            (("if", TRUE, SOME), 2), (("if", ("and", TRUE, TRUE), ("and", SOME, OR)), (2, ("this", None))), (("some", ("if", ("same", B0, ONE), ("some", ("same", B0, B1)))), (1, 1)),
+            (TRUE, None), (("and", TRUE, ("if", FALSE, NO)), None), (OR, ("this", None)),
+            (("or", FALSE, TRUE), ("that", None)), (("or", SOME, NO), ("this", 2)),
+            (("or", OR, SOME), ("this", ("this", None))), (("or", OR, SOME), ("that", 2)),
+            (SOME, 2), (("some", TRUE), 7), (("some", ("some", ("same", B1, ("next", B0)))), (5, 4)),
+            (("some", ("or", ("same", B0, ONE), ("same", B0, TWO))), (2, ("that", None))),
+            (("and", SOME, TRUE), 2), (("and", TRUE, SOME), 2), (("and", SOME, OR), (2, ("this", None))),
+            (("and", ("and", SOME, TRUE), ("and", SOME, SOME)), (2, (2, 2))),
+            (("if", TRUE, SOME), 2), (("if", ("and", TRUE, TRUE), ("and", SOME, OR)), (2, ("this", None))),
+            (("some", ("if", ("same", B0, ONE), ("some", ("same", B0, B1)))), (1, 1)),
             (("some", ("if", ("same", B0, ONE), ("some", ("same", B0, B1)))), (0, 9)),
         ]:
             self.check_shown(saying, worth)
@@ -131,9 +146,14 @@ class ShownBy(Grounds):
         # Any worth of the kind bears it, also one that no reckoning would tell.
         for first in (FALSE, NO, ("and", TRUE, FALSE), ("same", GREATEST, NOUGHT)):
             for second, worths in [
-                (SOME, [0, 1, 2, 17, GREAT - 1]), (OR, [("this", None), ("that", None)]), (("or", SOME, FALSE), [("this", 0), ("this", GREAT - 1), ("that", None)]),
-                (("and", SOME, SOME), [(0, 0), (3, 4), (GREAT - 1, 2)]), (("some", ("or", ("same", B0, ONE), ("some", ("same", B0, B1)))), [(0, ("this", None)), (4, ("that", 9))]),
-                (("and", TRUE, SOME), [5]), (("and", FALSE, SOME), [5]), (("and", SOME, NO), [5]), (("if", TRUE, SOME), [3]), (("if", FALSE, SOME), [3]), (("some", ("if", ("same", B0, ONE), SOME)), [(1, 5), (0, 6)]),
+                (SOME, [0, 1, 2, 17, GREAT - 1]), (OR, [("this", None), ("that", None)]),
+                (("or", SOME, FALSE), [("this", 0), ("this", GREAT - 1), ("that", None)]),
+                (("and", SOME, SOME), [(0, 0), (3, 4), (GREAT - 1, 2)]),
+                (("some", ("or", ("same", B0, ONE), ("some", ("same", B0, B1)))),
+                 [(0, ("this", None)), (4, ("that", 9))]),
+                (("and", TRUE, SOME), [5]), (("and", FALSE, SOME), [5]), (("and", SOME, NO), [5]),
+                (("if", TRUE, SOME), [3]), (("if", FALSE, SOME), [3]),
+                (("some", ("if", ("same", B0, ONE), SOME)), [(1, 5), (0, 6)]),
                 (("some", MANY), [0, 3]), (("or", MANY, ("and", MANY, SOME)), [("this", None), ("that", 8)]),
             ]:
                 for worth in worths:
@@ -144,7 +164,8 @@ class ShownBy(Grounds):
         self.check_shown(("if", TRUE, ("if", FALSE, SOME)), 7)
         # What stands behind isn't reckoned: not even the first of another if.
         self.check_shown(("if", FALSE, ("if", MANY, SOME)), 7)
-        self.check_shown(("if", NO, ("some", ("if", ("same", ("times", B0, GREATEST), NOUGHT), ("or", NO, SOME)))), (3, ("that", 9)))
+        self.check_shown(("if", NO, ("some", ("if", ("same", ("times", B0, GREATEST), NOUGHT), ("or", NO, SOME)))),
+                         (3, ("that", 9)))
 
     def test_great_numbers(self):
         for number in (GREAT - 1, GREAT - 2, 10 ** 59, 12345678901234567890):
@@ -153,7 +174,9 @@ class ShownBy(Grounds):
             self.check_shown(("some", ("some", ("if", ("same", B0, B1), NO))), (number, 3))
 
     def test_too_many(self):
-        for saying, worth in [(MANY, None), (("and", SOME, MANY), 2), (("and", SOME, MANY), 1), (("and", FALSE, ("and", SOME, MANY)), 1), (("or", MANY, TRUE), ("this", None)), (("some", ("same", ("next", B0), NOUGHT)), GREAT - 1), (("if", MANY, SOME), 2)]:
+        for saying, worth in [(MANY, None), (("and", SOME, MANY), 2), (("and", SOME, MANY), 1),
+                              (("and", FALSE, ("and", SOME, MANY)), 1), (("or", MANY, TRUE), ("this", None)),
+                              (("some", ("same", ("next", B0), NOUGHT)), GREAT - 1), (("if", MANY, SOME), 2)]:
             with self.assertRaises(TooMany):
                 shown_by(saying, worth)
 
@@ -167,14 +190,21 @@ class ShownBy(Grounds):
         self.assertIs(held.exception.thing, thing)
 
     def test_no_worth(self):
-        for saying, things in [(FALSE, [None, 0]), (TRUE, [0, True, ()]), (SOME, [0, 3, None, True, GREAT, "2", [2], (2,)]), (OR, [("that", None), ("this", 0), None, ["this", None]]), (("and", SOME, TRUE), [1, (2, None)]),
-                               (("and", SOME, FALSE), [2]), (("if", TRUE, SOME), [1]), (("if", FALSE, SOME), [None, GREAT, -1]), (("or", TRUE, MANY), [("this", 3), ("these", None)]), (MANY, [0]), (("some", MANY), [True, (0, None)])]:
+        for saying, things in [(FALSE, [None, 0]), (TRUE, [0, True, ()]),
+                               (SOME, [0, 3, None, True, GREAT, "2", [2], (2,)]),
+                               (OR, [("that", None), ("this", 0), None, ["this", None]]),
+                               (("and", SOME, TRUE), [1, (2, None)]),
+                               (("and", SOME, FALSE), [2]), (("if", TRUE, SOME), [1]),
+                               (("if", FALSE, SOME), [None, GREAT, -1]),
+                               (("or", TRUE, MANY), [("this", 3), ("these", None)]), (MANY, [0]),
+                               (("some", MANY), [True, (0, None)])]:
             for thing in things:
                 self.no_worth(saying, thing)
 
     def test_no_worth_of_anything(self):
         for saying in (TRUE, SOME, OR, ("and", SOME, SOME)):
-            for thing in [thing for thing in ODD if thing is not None] + [nested(2, 299, tuple), nested(None, 299, list), [[2]]]:
+            for thing in [thing for thing in ODD if thing is not None] + [nested(2, 299, tuple),
+                nested(None, 299, list), [[2]]]:
                 self.no_worth(saying, thing)
 
     def test_of_seen_sayings_by_chance(self):
@@ -270,7 +300,8 @@ class Sought(Grounds):
 
     def test_with_three_within_one_another(self):
         total = ("plus", B0, ("plus", B1, B2))
-        for most, number, due in [(0, 0, (0, (0, 0))), (0, 1, None), (1, 3, (1, (1, 1))), (1, 4, None), (20, 60, (20, (20, 20))), (20, 61, None)]:
+        for most, number, due in [(0, 0, (0, (0, 0))), (0, 1, None), (1, 3, (1, (1, 1))), (1, 4, None),
+                                  (20, 60, (20, (20, 20))), (20, 61, None)]:
             saying = tower("some", ("same", total, ("num", number)), 4)
             self.assertEqual(self.check_sought(saying, most), due)
         # Each bound stands for its own: 2, 3, 5 from without.
@@ -282,7 +313,8 @@ class Sought(Grounds):
 
     def test_an_if_whose_first_is_not_true(self):
         for most in (0, 1, 20):
-            for second in (SOME, ("or", NO, SOME), ("and", SOME, OR), ("or", SOME, NO), ("some", ("or", NO, SOME)), ("if", TRUE, SOME)):
+            for second in (SOME, ("or", NO, SOME), ("and", SOME, OR), ("or", SOME, NO), ("some", ("or", NO, SOME)),
+                           ("if", TRUE, SOME)):
                 self.assertIsNotNone(self.check_sought(("if", FALSE, second), most))
         saying = ("some", ("if", ("same", B0, NOUGHT), ("and", NO, SOME)))
         self.assertIsNone(sought(saying, most=0))

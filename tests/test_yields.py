@@ -8,7 +8,7 @@ from prooffruit.programs import judged
 from prooffruit.runs import run
 from prooffruit.yields import least, yielded
 from tests.making import Maker
-from tests.samples import B0, NO, NOUGHT, ONE, TRUE, X, Y, bush, slope
+from tests.samples import B0, NO, NOUGHT, ONE, X, Y, bush, slope
 
 NONE = ("none",)
 NUMBER = ("number",)
@@ -35,34 +35,51 @@ a, b, s, t, o = given("a", A), given("b", A), given("s", S), given("t", T), give
 
 # Grounds of every word, and their yields.
 YIELDS = [
-    (a, NOTHING), (s, known("s")), (o, known("o", EITHER)), (given("p", ("all", S)), known("p", ("from", NUMBER, NUMBER))),
+    (a, NOTHING), (s, known("s")), (o, known("o", EITHER)), (given("p", ("all", S)),
+        known("p", ("from", NUMBER, NUMBER))),
     (("lets", "u", S, s), ("lets", "u", NUMBER, known("s"))), (("lets", "s", S, s), ("lets", "s", NUMBER, known("s"))),
-    (("lets", "u", A, s), known("s")), (("lets", "u", S, a), NOTHING), (("lets", "u", A, a), NOTHING), (("lets", "u", O, s), ("lets", "u", EITHER, known("s"))),
+    (("lets", "u", A, s), known("s")), (("lets", "u", S, a), NOTHING), (("lets", "u", A, a), NOTHING),
+    (("lets", "u", O, s), ("lets", "u", EITHER, known("s"))),
     (("uses", given("i", ("if", S, O)), s), ("call", known("i", ("from", NUMBER, EITHER)), known("s"))),
-    (("uses", given("i", ("if", A, O)), a), known("i", EITHER)), (("uses", given("i", ("if", S, A)), s), NOTHING), (("uses", given("i", ("if", A, A)), a), NOTHING),
-    (("both", s, o), ("pair", known("s"), known("o", EITHER))), (("both", a, s), known("s")), (("both", s, a), known("s")), (("both", a, a), NOTHING),
-    (("first", given("c", ("and", S, O))), ("first", known("c", ("pair", NUMBER, EITHER)))), (("first", given("c", ("and", S, A))), known("c")),
+    (("uses", given("i", ("if", A, O)), a), known("i", EITHER)), (("uses", given("i", ("if", S, A)), s), NOTHING),
+    (("uses", given("i", ("if", A, A)), a), NOTHING),
+    (("both", s, o), ("pair", known("s"), known("o", EITHER))), (("both", a, s), known("s")),
+    (("both", s, a), known("s")), (("both", a, a), NOTHING),
+    (("first", given("c", ("and", S, O))), ("first", known("c", ("pair", NUMBER, EITHER)))),
+    (("first", given("c", ("and", S, A))), known("c")),
     (("first", given("c", ("and", A, S))), NOTHING), (("first", given("c", ("and", A, A))), NOTHING),
-    (("first", given("c", ("and", ("and", S, S), A))), known("c", PAIR)), (("second", given("c", ("and", A, ("and", S, S)))), known("c", PAIR)),
-    (("second", given("c", ("and", S, O))), ("second", known("c", ("pair", NUMBER, EITHER)))), (("second", given("c", ("and", A, S))), known("c")),
+    (("first", given("c", ("and", ("and", S, S), A))), known("c", PAIR)),
+    (("second", given("c", ("and", A, ("and", S, S)))), known("c", PAIR)),
+    (("second", given("c", ("and", S, O))), ("second", known("c", ("pair", NUMBER, EITHER)))),
+    (("second", given("c", ("and", A, S))), known("c")),
     (("second", given("c", ("and", S, A))), NOTHING),
-    (("this", s, O), ("this", known("s"), EITHER)), (("this", s, A), ("this", known("s"), NONE)), (("this", a, S), ("this", NOTHING, NUMBER)),
-    (("this", a, A), ("this", NOTHING, NONE)), (("that", O, s), ("that", EITHER, known("s"))), (("that", A, s), ("that", NONE, known("s"))),
+    (("this", s, O), ("this", known("s"), EITHER)), (("this", s, A), ("this", known("s"), NONE)),
+    (("this", a, S), ("this", NOTHING, NUMBER)),
+    (("this", a, A), ("this", NOTHING, NONE)), (("that", O, s), ("that", EITHER, known("s"))),
+    (("that", A, s), ("that", NONE, known("s"))),
     (("that", S, a), ("that", NUMBER, NOTHING)), (("that", A, a), ("that", NONE, NOTHING)),
     (("cases", o, "u", s, "v", given("v", S)), ("cases", known("o", EITHER), "u", known("s"), "v", known("v"))),
     (("cases", o, "u", a, "v", a), NOTHING),
-    (("for", "y", s), ("for", "y", known("s"))), (("for", "y", a), NOTHING), (("for", "x", ("such", ("same", B0, B0), X, ("equal", X))), ("for", "x", X)),
-    (("at", given("p", ("all", S)), ("next", Y)), ("call", known("p", ("from", NUMBER, NUMBER)), ("next", Y))), (("at", given("p", ("all", A)), Y), NOTHING),
-    (("such", ("same", B0, X), X, ("equal", X)), X), (("such", S, ("plus", X, Y), s), ("pair", ("plus", X, Y), known("s"))),
-    (("open", given("p", ("some", ("and", A, S))), "y", "u", ("second", given("u", ("and", A, S)))), ("parts", known("p", PAIR), "y", "u", known("u"))),
+    (("for", "y", s), ("for", "y", known("s"))), (("for", "y", a), NOTHING),
+    (("for", "x", ("such", ("same", B0, B0), X, ("equal", X))), ("for", "x", X)),
+    (("at", given("p", ("all", S)), ("next", Y)), ("call", known("p", ("from", NUMBER, NUMBER)), ("next", Y))),
+    (("at", given("p", ("all", A)), Y), NOTHING),
+    (("such", ("same", B0, X), X, ("equal", X)), X), (("such", S, ("plus", X, Y), s),
+                                                      ("pair", ("plus", X, Y), known("s"))),
+    (("open", given("p", ("some", ("and", A, S))), "y", "u", ("second", given("u", ("and", A, S)))),
+     ("parts", known("p", PAIR), "y", "u", known("u"))),
     (("open", given("p", ("some", ("same", B0, ONE))), "y", "u", s), ("call", ("for", "y", known("s")), known("p"))),
-    (("open", given("p", ("some", S)), "y", "u", a), NOTHING), (("open", given("p", ("some", A)), "y", "u", a), NOTHING),
+    (("open", given("p", ("some", S)), "y", "u", a), NOTHING), (("open", given("p", ("some", A)), "y", "u", a),
+        NOTHING),
     (("open", given("p", ("some", ("and", S, S))), "y", "u", ("both", ("first", given("u", ("and", S, S))), s)),
      ("parts", known("p", ("pair", NUMBER, PAIR)), "y", "u", ("pair", ("first", known("u", PAIR)), known("s")))),
-    (("absurd", given("n", NO), S), NOUGHT), (("absurd", given("n", NO), A), NOTHING), (("absurd", given("n", NO), O), ("this", NOTHING, NUMBER)),
+    (("absurd", given("n", NO), S), NOUGHT), (("absurd", given("n", NO), A), NOTHING),
+    (("absurd", given("n", NO), O), ("this", NOTHING, NUMBER)),
     (("absurd", given("n", NO), ("if", S, T)), ("lets", "u", NUMBER, NOUGHT)),
-    (("equal", X), NOTHING), (("put", ("equal", X), ("some", ("same", B0, ("bound", 1))), s), known("s")), (("put", given("e", A), ("same", B0, ONE), a), NOTHING),
-    (("reckoned", ONE, ONE), NOTHING), (("sums", 0, X), NOTHING), (("sums", 3, X, Y), NOTHING), (("down", given("d", ("same", ("next", X), ("next", Y)))), NOTHING),
+    (("equal", X), NOTHING), (("put", ("equal", X), ("some", ("same", B0, ("bound", 1))), s), known("s")),
+    (("put", given("e", A), ("same", B0, ONE), a), NOTHING),
+    (("reckoned", ONE, ONE), NOTHING), (("sums", 0, X), NOTHING), (("sums", 3, X, Y), NOTHING),
+    (("down", given("d", ("same", ("next", X), ("next", Y)))), NOTHING),
     (("never", given("d", ("same", ("next", X), NOUGHT))), NOTHING),
     (("climb", S, s, "y", "u", given("u", S), ("next", X)), ("climb", known("s"), "y", "u", known("u"), ("next", X))),
     (("climb", A, a, "y", "u", given("u", A), X), NOTHING),
@@ -98,7 +115,8 @@ class Yields(unittest.TestCase):
         ground = ("first", ("both", ("this", ("such", ("same", B0, X), X, ("equal", X)), A), ("lets", "u", A, a)))
         self.assertEqual(yielded(ground), ("this", X, NONE))
         ground = ("first", ("both", ("lets", "u", S, given("u", S)), ("for", "y", s)))
-        self.assertEqual(yielded(ground), ("first", ("pair", ("lets", "u", NUMBER, known("u")), ("for", "y", known("s")))))
+        self.assertEqual(yielded(ground), ("first",
+                                           ("pair", ("lets", "u", NUMBER, known("u")), ("for", "y", known("s")))))
 
     def test_great_ones(self):
         ground = bush("both", ("equal", NOUGHT), 50)
@@ -122,7 +140,8 @@ class NoYields(unittest.TestCase):
 
     def test_the_whole(self):
         self.assertEqual(self.place(self.TWICE), ())
-        self.assertEqual(self.place(("twice", ("lets", "k", ("if", A, NO), ("uses", given("k", ("if", A, NO)), self.TWICE)))), ())
+        self.assertEqual(self.place(("twice", ("lets", "k", ("if", A, NO),
+                                               ("uses", given("k", ("if", A, NO)), self.TWICE)))), ())
 
     def test_in_each_ground(self):
         self.assertEqual(self.place(("first", ("both", self.TWICE, a))), (0, 0))
@@ -151,9 +170,12 @@ class NoYields(unittest.TestCase):
         self.assertEqual(self.place(("both", s, self.TWICE)), (1,))
 
     def test_no_ground_goes_first(self):
-        for ground, place, word in [(("both", self.TWICE, ("first", a)), (1,), "saying"), (("first", self.TWICE), (), "saying"), (("twice", a), (), "saying"),
-                                    (("both", self.TWICE, None), (1,), "form"), (None, (), "form"), (("for", "x", ("both", a, self.TWICE)), (), "name"),
-                                    (("both", self.TWICE, given("a", S)), (), "given"), (("both", self.TWICE, ("reckoned", ONE, NOUGHT)), (1,), "number")]:
+        for ground, place, word in [(("both", self.TWICE, ("first", a)), (1,), "saying"),
+                                    (("first", self.TWICE), (), "saying"), (("twice", a), (), "saying"),
+                                    (("both", self.TWICE, None), (1,), "form"), (None, (), "form"),
+                                    (("for", "x", ("both", a, self.TWICE)), (), "name"),
+                                    (("both", self.TWICE, given("a", S)), (), "given"),
+                                    (("both", self.TWICE, ("reckoned", ONE, NOUGHT)), (1,), "number")]:
             with self.assertRaises(NoGround) as held:
                 yielded(ground)
             self.assertEqual((held.exception.place, held.exception.word), (place, word))
@@ -174,10 +196,14 @@ class NoYields(unittest.TestCase):
 class Least(unittest.TestCase):
     def test_every_kind(self):
         for kind, program in [
-            (NONE, NOTHING), (NUMBER, NOUGHT), (PAIR, ("pair", NOUGHT, NOUGHT)), (("either", NUMBER, PAIR), ("this", NOUGHT, PAIR)),
-            (("either", NONE, NUMBER), ("this", NOTHING, NUMBER)), (("either", NUMBER, NONE), ("this", NOUGHT, NONE)), (("either", NONE, NONE), ("this", NOTHING, NONE)),
-            (("from", PAIR, NUMBER), ("lets", "u", PAIR, NOUGHT)), (("from", NUMBER, ("from", PAIR, EITHER)), ("lets", "u", NUMBER, ("lets", "u", PAIR, ("this", NOTHING, NUMBER)))),
-            (("pair", ("from", NUMBER, NUMBER), EITHER), ("pair", ("lets", "u", NUMBER, NOUGHT), ("this", NOTHING, NUMBER))),
+            (NONE, NOTHING), (NUMBER, NOUGHT), (PAIR, ("pair", NOUGHT, NOUGHT)),
+            (("either", NUMBER, PAIR), ("this", NOUGHT, PAIR)),
+            (("either", NONE, NUMBER), ("this", NOTHING, NUMBER)), (("either", NUMBER, NONE), ("this", NOUGHT, NONE)),
+            (("either", NONE, NONE), ("this", NOTHING, NONE)),
+            (("from", PAIR, NUMBER), ("lets", "u", PAIR, NOUGHT)), (("from", NUMBER, ("from", PAIR, EITHER)),
+                ("lets", "u", NUMBER, ("lets", "u", PAIR, ("this", NOTHING, NUMBER)))),
+            (("pair", ("from", NUMBER, NUMBER), EITHER), ("pair", ("lets", "u", NUMBER, NOUGHT),
+                                                          ("this", NOTHING, NUMBER))),
             (("pair", EITHER, ("either", NUMBER, NONE)), ("pair", ("this", NOTHING, NUMBER), ("this", NOUGHT, NONE))),
             (("either", ("either", PAIR, NONE), NONE), ("this", ("this", ("pair", NOUGHT, NOUGHT), NONE), NONE)),
         ]:
