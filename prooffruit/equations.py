@@ -11,7 +11,7 @@ X = ("name", "x")
 def first_step(more):
     """A ground of (if (same (plus more 0) 0) no), more a next: the sum is more itself, and so a next."""
     start = ("given", "w", ("same", ("plus", more, NOUGHT), NOUGHT))
-    return ("lets", "w", start[2], ("never", ("put", ("sums", 0, more), ("same", HERE, NOUGHT), start)))
+    return ("lets", "w", start[2], ("never", ("put", ("sums", 0, more, NOUGHT), ("same", HERE, NOUGHT), start)))
 
 
 def next_step(more):

@@ -1,6 +1,6 @@
 """The parts of a ground, the grounds that stand in one, and which ground is plain."""
 
-# What each part of a tuple of each word is, in their order; of sums it hangs on its number (SUMS).
+# What each part of a tuple of each word is, in their order; which is one of the numbers of sums.
 PARTS = {
     "given": ("label", "saying"),
     "lets": ("label", "saying", "ground"),
@@ -19,14 +19,12 @@ PARTS = {
     "equal": ("term",),
     "put": ("ground", "body", "ground"),
     "reckoned": ("term", "term"),
+    "sums": ("which", "term", "term"),
     "down": ("ground",),
     "never": ("ground",),
     "climb": ("body", "ground", "name", "label", "ground", "term"),
     "twice": ("ground",),
 }
-
-# What each part of a sums of number 0, 1, 2, 3 is.
-SUMS = (("which", "term"), ("which", "term", "term"), ("which", "term"), ("which", "term", "term"))
 
 # For a word and the place of a ground in its tuple: the places of the names and labels that are closed in that ground.
 CLOSED_AT = {
@@ -41,8 +39,6 @@ CLOSED_AT = {
 
 def parts_of(ground):
     """What each part of a ground is, in their order."""
-    if ground[0] == "sums":
-        return SUMS[ground[1]]
     return PARTS[ground[0]]
 
 

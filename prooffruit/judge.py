@@ -1,7 +1,7 @@
 """What a ground grounds and from which givens, and why anything else is no ground."""
 
 from prooffruit.errors import NoGround, NoNumber, TooMany
-from prooffruit.grounds import PARTS, SUMS, closed_words, grounds_of, parts_of
+from prooffruit.grounds import PARTS, closed_words, grounds_of, parts_of
 from prooffruit.order import in_order, popped
 from prooffruit.rules import SAYS, closed_sayings
 from prooffruit.sayings import is_body, is_saying, names_in
@@ -9,6 +9,9 @@ from prooffruit.terms import is_term, is_whole, is_word, worth
 
 MOST_PIECES = 2000
 MOST_WITHIN = 100
+
+# How many equations of sums there are, numbered from 0.
+MANY_SUMS = 4
 
 
 def is_part(part, what):
@@ -28,15 +31,13 @@ def is_part(part, what):
 
 def is_which(thing):
     """Whether anything is one of the numbers of sums."""
-    return is_whole(thing) and 0 <= thing < len(SUMS)
+    return is_whole(thing) and 0 <= thing < MANY_SUMS
 
 
 def has_word(thing):
-    """Whether anything is a tuple that begins with the word of a ground, of sums with one of its numbers behind it."""
+    """Whether anything is a tuple that begins with the word of a ground."""
     if not isinstance(thing, tuple) or len(thing) == 0 or not isinstance(thing[0], str):
         return False
-    if thing[0] == "sums":
-        return len(thing) > 1 and is_which(thing[1])
     return thing[0] in PARTS
 
 

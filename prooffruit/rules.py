@@ -79,12 +79,11 @@ def says_reckoned(piece, _):
 
 
 def says_sums(piece, _):
-    which, term = piece[1], piece[2]
+    which, term, other = piece[1:]
     if which == 0:
         return ("same", ("plus", term, NOUGHT), term)
     if which == 2:
         return ("same", ("times", term, NOUGHT), NOUGHT)
-    other = piece[3]
     if which == 1:
         return ("same", ("plus", term, ("next", other)), ("next", ("plus", term, other)))
     return ("same", ("times", term, ("next", other)), ("plus", ("times", term, other), term))

@@ -57,7 +57,7 @@ class Maker:
             return ("equal", self.term(names))
         if pick == 1:
             k = self.chance.randrange(4)
-            return ("sums", k, self.term(names)) + ((self.term(names),) if k % 2 else ())
+            return ("sums", k, self.term(names), self.term(names))
         if pick == 2:
             n = self.chance.randrange(4)
             return ("reckoned", ("plus", ONE, ("num", n)), ("num", n + 1))

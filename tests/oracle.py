@@ -42,7 +42,7 @@ GROUND_FORMS = {
     "at": [(is_ground, is_term)], "such": [(is_body, is_term, is_ground)],
     "open": [(is_ground, is_word, is_word, is_ground)], "absurd": [(is_ground, is_saying)], "equal": [(is_term,)],
     "put": [(is_ground, is_body, is_ground)], "reckoned": [(is_term, is_term)],
-    "sums": [(which(0, 2), is_term), (which(1, 3), is_term, is_term)], "down": [(is_ground,)],
+    "sums": [(which(0, 1, 2, 3), is_term, is_term)], "down": [(is_ground,)],
     "never": [(is_ground,)], "climb": [(is_body, is_ground, is_word, is_word, is_ground, is_term)],
     "twice": [(is_ground,)],
 }

@@ -7,7 +7,7 @@ BODY = ("same", B0, X)
 
 P = ("equal", ("num", 10))
 Q = ("given", "u", ("same", X, X))
-R = ("sums", 0, X)
+R = ("sums", 0, X, Y)
 
 
 def made(p, q, r):
@@ -30,9 +30,9 @@ def made(p, q, r):
         (("equal", X), 0),
         (("put", p, BODY, q), 2),
         (("reckoned", ("next", NOUGHT), ONE), 0),
-        (("sums", 0, X), 0),
+        (("sums", 0, X, Y), 0),
         (("sums", 1, X, Y), 0),
-        (("sums", 2, X), 0),
+        (("sums", 2, X, Y), 0),
         (("sums", 3, X, Y), 0),
         (("down", p), 1),
         (("never", p), 1),

@@ -44,9 +44,11 @@ RIGHT = [
      {"u": ("same", X, Z), "v": ("same", X, Y)}),
     (("reckoned", ("times", ("num", 2), ("num", 3)), ("next", ("num", 5))),
      ("same", ("times", ("num", 2), ("num", 3)), ("next", ("num", 5))), {}),
-    (("sums", 0, X), ("same", ("plus", X, NOUGHT), X), {}),
+    (("sums", 0, X, Y), ("same", ("plus", X, NOUGHT), X), {}),
+    (("sums", 0, X, ONE), ("same", ("plus", X, NOUGHT), X), {}),
     (("sums", 1, X, Y), ("same", ("plus", X, ("next", Y)), ("next", ("plus", X, Y))), {}),
-    (("sums", 2, X), ("same", ("times", X, NOUGHT), NOUGHT), {}),
+    (("sums", 2, X, Y), ("same", ("times", X, NOUGHT), NOUGHT), {}),
+    (("sums", 2, X, ("next", NOUGHT)), ("same", ("times", X, NOUGHT), NOUGHT), {}),
     (("sums", 3, X, Y), ("same", ("times", X, ("next", Y)), ("plus", ("times", X, Y), X)), {}),
     (("down", given("u", ("same", ("next", X), ("next", Y)))), ("same", X, Y),
      {"u": ("same", ("next", X), ("next", Y))}),
@@ -380,9 +382,12 @@ MALFORMED = [
     ("put", ("equal", X), BODY), ("put", ("equal", X), ("same", B1, B0), ("equal", X)),
     ("put", ("equal", X), X, ("equal", X)),
     ("reckoned", ONE), ("reckoned", ONE, B0), ("reckoned", A, ONE), ("reckoned", ONE, ONE, ONE), ("reckoned", 1, 1),
-    ("sums",), ("sums", 0), ("sums", 0, X, Y), ("sums", 2, X, Y), ("sums", 1, X), ("sums", 3, X), ("sums", 1, X, Y, X),
+    ("sums",), ("sums", 0), ("sums", 0, X), ("sums", 2, X), ("sums", 1, X), ("sums", 3, X), ("sums", 1, X, Y, X),
+    ("sums", 0, X, Y, X), ("sums", 0, X, B0), ("sums", 2, X, NO), ("sums", 2, X, 0), ("sums", False, X, Y),
+    ("sums", 0, X, None), ("sums", 5, X, Y), ("sums", "0", X, Y), ("sums", None, X, Y), ("sums", (0,), X, Y),
+    ("sums", [0], X, Y), ("sums", NOUGHT, X, Y), ("sums", X, X, Y),
     ("sums", -1, X), ("sums", -1, X, Y), ("sums", 4, X), ("sums", 4, X, Y), ("sums", True, X, Y), ("sums", False, X),
-    ("sums", "0", X), ("sums", None, X), ("sums", 0, B0), ("sums", 1, X, B0), ("sums", 0, NO), ("sums", X, Y),
+    ("sums", "0", X), ("sums", None, X), ("sums", 0, B0, X), ("sums", 1, X, B0), ("sums", 0, NO, X), ("sums", X, Y),
     ("sums", (0,), X), ("sums", [0], X), ("sums", NOUGHT, X),
     ("down",), ("down", ("equal", X), ("equal", X)), ("never",), ("never", ("equal", X), NO),
     ("climb", B, given("p", B), "x", "u", given("p", B)), ("climb", ("same", B1, B0), given("p", B), "x", "u",
@@ -432,7 +437,8 @@ class Forms(unittest.TestCase):
         for thing in [thing for thing in ODD if not isinstance(thing, str)] + [nested("x", 290, list),
             nested((), 290, tuple)]:
             for ground in [("given", thing, A), ("given", "u", thing) if thing != NO else ("given",), ("equal", thing),
-                           ("sums", thing, X) if thing != 0 else ("sums",), ("for", thing, ("equal", X)),
+                           ("sums", thing, X, X) if thing not in (0, 1) or thing is True or thing is False else
+                           ("sums",), ("for", thing, ("equal", X)),
                            ("such", thing, X, ("equal", X)) if thing != NO else ("such",), ("at", ("equal", X), thing)]:
                 self.assertEqual(told(ground), ((), "form"), ground)
 
@@ -638,10 +644,10 @@ class Sizes(unittest.TestCase):
             (("at", given("u", ("all", ("same", ("plus", B0, B0), B0))), half), "size"),
             (("reckoned", bush("plus", NOUGHT, 100), bush("times", NOUGHT, 100)), None),
             (("reckoned", bush("plus", NOUGHT, 101), bush("times", NOUGHT, 100)), "size"),
-            (("sums", 0, bush("plus", X, 99)), None), (("sums", 0, ("next", bush("plus", X, 99))), None),
-            (("sums", 0, half), "size"),
-            (("sums", 1, half, X), "size"), (("sums", 2, ("next", bush("plus", X, 198))), None),
-            (("sums", 2, bush("plus", X, 199)), "size"), (("sums", 3, X, half), "size"),
+            (("sums", 0, bush("plus", X, 99), X), None), (("sums", 0, ("next", bush("plus", X, 99)), half), None),
+            (("sums", 0, half, X), "size"), (("sums", 0, X, bush("plus", X, 200)), None),
+            (("sums", 1, half, X), "size"), (("sums", 2, ("next", bush("plus", X, 198)), X), None),
+            (("sums", 2, bush("plus", X, 199), X), "size"), (("sums", 3, X, half), "size"),
             (("climb", ("same", ("times", B0, B0), ("times", B0, B0)),
               ("absurd", given("n", NO), ("same", ("times", NOUGHT, NOUGHT), ("times", NOUGHT, NOUGHT))),
               "x", "u", ("absurd", given("n", NO), ("same", ("times", ("next", X), ("next", X)),
@@ -665,8 +671,8 @@ class Sizes(unittest.TestCase):
         self.assertEqual(told(("equal", tower("next", X, 59))), None)
         self.assertEqual(told(("equal", tower("next", X, 60))), ((), "size"))
         self.assertEqual(told(("reckoned", tower("next", NOUGHT, 60), ("num", 59))), ((), "size"))
-        self.assertEqual(told(("sums", 0, tower("next", X, 58))), None)
-        self.assertEqual(told(("sums", 0, tower("next", X, 59))), ((), "size"))
+        self.assertEqual(told(("sums", 0, tower("next", X, 58), X)), None)
+        self.assertEqual(told(("sums", 0, tower("next", X, 59), X)), ((), "size"))
         some = given("u", ("all", ("same", X, tower("next", B0, 30))))
         self.assertEqual(told(("at", some, tower("next", X, 30))), None)
         self.assertEqual(told(("at", some, tower("next", X, 31))), ((), "size"))

@@ -43,8 +43,8 @@ def next_sum(y, t):
     body = ("same", ("plus", ("next", y), B0), ("next", ("plus", y, B0)))
     z = ("name", "k")
     # next y + 0 = next y, and y + 0 = y.
-    start = ("put", turned(("sums", 0, y), ("plus", y, NOUGHT)), ("same", ("plus", ("next", y), NOUGHT), ("next", B0)),
-             ("sums", 0, ("next", y)))
+    start = ("put", turned(("sums", 0, y, NOUGHT), ("plus", y, NOUGHT)),
+             ("same", ("plus", ("next", y), NOUGHT), ("next", B0)), ("sums", 0, ("next", y), y))
     # next y + next z = next (next y + z) = next (next (y + z)) = next (y + next z).
     sum_next = ("plus", ("next", y), ("next", z))
     mid = ("put", ("given", "h", put_in(body, z)), ("same", sum_next, ("next", B0)), ("sums", 1, ("next", y), z))

@@ -47,7 +47,8 @@ class OpenNames(unittest.TestCase):
             (("open", given("p", ("some", BODY)), "x", "u", ("lets", "v", NO, ("first", ("both", z, x)))), "yz"),
             (("absurd", given("n", NO), A), "x"), (("equal", ("plus", Y, ("next", X))), "xy"),
             (("put", ("equal", X), BODY, given("u", ("same", X, Y))), "xy"), (("reckoned", ONE, ONE), ""),
-            (("sums", 0, X), "x"), (("sums", 1, X, Y), "xy"), (("sums", 2, X), "x"), (("sums", 3, Y, X), "xy"),
+            (("sums", 0, X, Z), "xz"), (("sums", 1, X, Y), "xy"), (("sums", 2, NOUGHT, X), "x"),
+            (("sums", 3, Y, X), "xy"),
             (("down", given("u", ("same", ("next", X), ("next", Y)))), "xy"),
             (("never", given("u", ("same", ("next", X), NOUGHT))), "x"),
             (("climb", B, given("p", B), "x", "u", ("first", ("both", given("u", B), x)), Z), "yz"),
@@ -174,6 +175,7 @@ class Alike(unittest.TestCase):
                            (("this", equal("y"), A), ("this", equal("y"), put_for(A, "x", Z))),
                            (("absurd", given("n", NO), A), ("absurd", given("n", NO), put_for(A, "x", Z))),
                            (("sums", 1, X, Y), ("sums", 1, Z, Y)), (("sums", 3, Y, X), ("sums", 3, Y, Z)),
+                           (("sums", 0, Y, X), ("sums", 0, Y, Z)), (("sums", 2, Y, X), ("sums", 2, Y, Z)),
                            (("at", given("p", ("all", B)), X), ("at", given("p", ("all", B)), Z)),
                            (("put", ("equal", X), TRUE, ("equal", NOUGHT)),
                             ("put", ("equal", Z), TRUE, ("equal", NOUGHT)))]:
@@ -184,7 +186,8 @@ class Alike(unittest.TestCase):
     def test_unlike_words_and_parts(self):
         x = equal("x")
         rows = [x, ("both", x, x), ("first", ("both", x, x)), ("second", ("both", x, x)), ("this", x, A),
-                ("this", x, B), ("that", A, x), ("sums", 0, X), ("sums", 2, X), ("sums", 1, X, Y), ("sums", 3, X, Y),
+                ("this", x, B), ("that", A, x), ("sums", 0, X, Y), ("sums", 0, X, X), ("sums", 2, X, Y),
+                ("sums", 2, X, X), ("sums", 1, X, Y), ("sums", 3, X, Y),
                 ("sums", 1, Y, X), ("reckoned", ONE, ONE),
                 ("reckoned", NOUGHT, NOUGHT), ("equal", ("next", X)), ("equal", ("plus", X, X)),
                 ("equal", ("times", X, X)), ("for", "x", x), ("for", "x", ("for", "x", x)), given("u", A),
@@ -268,7 +271,8 @@ class Named(Putting):
                        ("such", ("same", B0, X), X, x),
                        ("open", given("p", ("some", ("same", X, B0))), "z", "u",
                         ("such", ("same", X, B0), Z, given("u", ("same", X, Z)))), ("absurd", given("n", NO), A),
-                        ("put", x, ("same", B0, X), x), ("sums", 0, X), ("sums", 1, X, X), ("sums", 2, X),
+                        ("put", x, ("same", B0, X), x), ("sums", 0, X, ONE), ("sums", 0, ONE, X),
+                       ("sums", 1, X, X), ("sums", 2, X, X),
                        ("sums", 3, X, X), ("down", given("u", ("same", ("next", X), ("next", Y)))),
                        ("never", given("u", ("same", ("next", X), NOUGHT))),
                        ("climb", A, given("p", A), "z", "u", given("u", A), X),

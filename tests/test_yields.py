@@ -78,7 +78,7 @@ YIELDS = [
     (("absurd", given("n", NO), ("if", S, T)), ("lets", "u", NUMBER, NOUGHT)),
     (("equal", X), NOTHING), (("put", ("equal", X), ("some", ("same", B0, ("bound", 1))), s), known("s")),
     (("put", given("e", A), ("same", B0, ONE), a), NOTHING),
-    (("reckoned", ONE, ONE), NOTHING), (("sums", 0, X), NOTHING), (("sums", 3, X, Y), NOTHING),
+    (("reckoned", ONE, ONE), NOTHING), (("sums", 0, X, Y), NOTHING), (("sums", 3, X, Y), NOTHING),
     (("down", given("d", ("same", ("next", X), ("next", Y)))), NOTHING),
     (("never", given("d", ("same", ("next", X), NOUGHT))), NOTHING),
     (("climb", S, s, "y", "u", given("u", S), ("next", X)), ("climb", known("s"), "y", "u", known("u"), ("next", X))),
