@@ -45,6 +45,19 @@ def open_names_of(ground):
     return names
 
 
+def open_labels_of(ground):
+    """The labels of the givens of a ground that nothing closes: a dict of True."""
+    labels = {}
+    todo = [(ground, {})]
+    while todo:
+        piece, closed = todo.pop()
+        if piece[0] == "given" and piece[1] not in closed:
+            labels[piece[1]] = True
+        for inner, (_, label) in zip(grounds_of(piece), closed_words(piece)):
+            todo.append((inner, closed if label is None else {**closed, label: True}))
+    return labels
+
+
 class Exchange:
     """Which closed names and labels are exchanged, and the words that are used already."""
 
@@ -134,9 +147,9 @@ def with_term(ground, name, term):
     return exchanged(ground, {name: term}, {}, Exchange(shunned, {}, used))
 
 
-def with_ground(ground, label, other, labels):
-    """A right ground with another one, of some open labels, put into it for a label, wherever that is open."""
+def with_ground(ground, label, other):
+    """A right ground with another one put into it for a label, wherever that is open."""
     shunned = open_names_of(other)
-    shunned_labels = {word: True for word in labels}
-    used = {**words_of(ground), **shunned, **shunned_labels, label: True}
-    return exchanged(ground, {}, {label: other}, Exchange(shunned, shunned_labels, used))
+    labels = open_labels_of(other)
+    used = {**words_of(ground), **shunned, **labels, label: True}
+    return exchanged(ground, {}, {label: other}, Exchange(shunned, labels, used))

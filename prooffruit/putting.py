@@ -102,4 +102,4 @@ def supplied(ground, label, other):
     for word, needs in other_givens:
         if word != label and word in needed and needed[word] != needs:
             raise NoGround((), "given")
-    return with_ground(ground, label, other, [word for word, _ in other_givens])
+    return with_ground(ground, label, other)

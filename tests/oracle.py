@@ -1,4 +1,4 @@
-"""What DOC.md's points 7, 8 and 10 say, once more and by themselves: short, slow, calling itself.
+"""What DOC.md's points 7, 8, 10, 11 and 17 say, once more and by themselves: short, slow, calling itself.
 
 The tests compare what the program tells with what is told here, for very many things.
 """
@@ -307,3 +307,123 @@ def nameless(thing, names=None, labels=None, depth=0, put=None):
             (inner_names if closing[place] == "name" else inner_labels)[thing[place]] = depth
         parts.append(None if at in closing else nameless(part, inner_names, inner_labels, inner_depth, put))
     return tuple(parts)
+
+
+def fresh_words(thing):
+    """Words that stand nowhere in a thing."""
+    text = repr(thing)
+    for number in range(26 ** 3):
+        word = "q" + "".join(chr(97 + number // 26 ** place % 26) for place in (2, 1, 0))
+        if repr(word) not in text:
+            yield word
+
+
+def apart(g, fresh, names=None, labels=None):
+    """A ground in which each closing has a word of its own."""
+    names, labels = names or {}, labels or {}
+    closing = {} if g[0] == "given" else WORD_AT.get(g[0], {})
+    new = {place: next(fresh) for place in closing}
+    parts = [g[0]]
+    for at, part in enumerate(g[1:], start=1):
+        if at in new:
+            parts.append(new[at])
+        elif g[0] == "given" and at == 1:
+            parts.append(labels.get(part, part))
+        elif isinstance(part, tuple) and part[0] in GROUND_FORMS:
+            tables = {"name": dict(names), "label": dict(labels)}
+            for place in CLOSING.get((g[0], at), ()):
+                tables[closing[place]][g[place]] = new[place]
+            parts.append(apart(part, fresh, tables["name"], tables["label"]))
+        else:
+            parts.append(in_place(part, lambda piece: ("name", names.get(piece[1], piece[1]))
+                                  if piece[0] == "name" else None))
+    return tuple(parts)
+
+
+def in_place(thing, told):
+    """A thing in which what is told stands in the place of each tuple of which anything is told."""
+    if not isinstance(thing, tuple):
+        return thing
+    new = told(thing)
+    return tuple(in_place(part, told) for part in thing) if new is None else new
+
+
+def term_for(thing, x, t):
+    return in_place(thing, lambda piece: t if piece == ("name", x) else None)
+
+
+def ground_for(thing, u, p):
+    return in_place(thing, lambda piece: p if piece[:2] == ("given", u) else None)
+
+
+def bound_for(body, told, depth=0):
+    """A body in which told(out by, depth) stands for each bound that is out by 0 or 1."""
+    if body[0] == "bound":
+        return told(body[1] - depth, depth) if body[1] >= depth else body
+    if body[0] in ("num", "name"):
+        return body
+    inner = depth + (body[0] in ("all", "some"))
+    return (body[0],) + tuple(bound_for(part, told, inner) for part in body[1:])
+
+
+def own_for(body, t):
+    return bound_for(body, lambda out, depth: t if out == 0 else ("bound", depth))
+
+
+def outer_for(body, t):
+    return bound_for(body, lambda out, depth: ("bound", depth) if out == 0 else t)
+
+
+def undone(g):
+    """What comes of a piece of a ground whose closings are apart, or None where it is no detour."""
+    word, p = g[0], g[1]
+    if word in ("first", "second") and p[0] == "both":
+        return p[1 if word == "first" else 2]
+    if word == "uses" and p[0] == "lets":
+        return ground_for(p[3], p[1], g[2])
+    if word == "at" and p[0] == "for":
+        return term_for(p[2], p[1], g[2])
+    if word == "cases" and p[0] == "this":
+        return ground_for(g[3], g[2], p[1])
+    if word == "cases" and p[0] == "that":
+        return ground_for(g[5], g[4], p[2])
+    if word == "open" and p[0] == "such":
+        return ground_for(term_for(g[4], g[2], p[2]), g[3], p[3])
+    if word == "climb":
+        return climbed(g)
+    return led(*g[1:]) if word == "put" else None
+
+
+def climbed(g):
+    _, A, p, x, u, q, t = g
+    if t == NOUGHT:
+        return p
+    if t[0] == "next":
+        return ground_for(term_for(q, x, t[1]), u, g[:6] + (t[1],))
+    if t[0] == "num":
+        s = ("num", t[1] - 1)
+        return ("put", ("reckoned", ("next", s), t), A, ground_for(term_for(q, x, s), u, g[:6] + (s,)))
+    if names_in(t) or reckoned(t) is None:
+        return None
+    n = ("num", reckoned(t))
+    return ("put", ("reckoned", n, t), A, g[:6] + (n,))
+
+
+def led(p, A, q):
+    if (A[0], q[0]) not in [("and", "both"), ("or", "this"), ("or", "that"), ("if", "lets"), ("all", "for"),
+                            ("some", "such")]:
+        return None
+    _, t, s = ground_told(p)[0]
+    if q[0] == "both":
+        return ("both", ("put", p, A[1], q[1]), ("put", p, A[2], q[2]))
+    if q[0] == "this":
+        return ("this", ("put", p, A[1], q[1]), put_in(A[2], s))
+    if q[0] == "that":
+        return ("that", put_in(A[1], s), ("put", p, A[2], q[2]))
+    if q[0] == "lets":
+        first = put_in(A[1], s)
+        back = ("put", ("put", p, ("same", ("bound", 0), t), ("equal", t)), A[1], ("given", q[1], first))
+        return ("lets", q[1], first, ("put", p, A[2], ground_for(q[3], q[1], back)))
+    if q[0] == "for":
+        return ("for", q[1], ("put", p, own_for(A[1], ("name", q[1])), q[2]))
+    return ("such", outer_for(A[1], s), q[2], ("put", p, own_for(A[1], q[2]), q[3]))
