@@ -6,7 +6,7 @@ from prooffruit.judge import MOST_PIECES, MOST_WITHIN, grounded
 from prooffruit.order import in_order, popped
 from prooffruit.rules import SAYS
 from prooffruit.sayings import names_in, put_in
-from prooffruit.wishes import Wish, carried, closing, is_liftable, led, lifted, reached, stable_by, forks
+from prooffruit.wishes import Wish, carried, closing, forks, is_liftable, led, lifted, reached, stable_by
 
 
 class Twin:
@@ -169,9 +169,10 @@ def twin_of(piece, inner, wish):
 def ground_doubled(ground, saying):
     """A right ground doubled by a saying as the wish, plain."""
     shunned = {name: True for name in names_in(saying)}
-    used = {**words_of(ground), **shunned}
-    wish = Wish(saying, used)
-    rows, _ = in_order(exchanged(ground, {}, {}, Exchange(shunned, {}, used)), grounds_of, MOST_PIECES, MOST_WITHIN)
+    # A closed name of the wish would come to close that one, too.
+    apart = exchanged(ground, {}, {}, Exchange(shunned, {}, {**words_of(ground), **shunned}))
+    wish = Wish(saying, {**words_of(apart), **shunned})
+    rows, _ = in_order(apart, grounds_of, MOST_PIECES, MOST_WITHIN)
     done = []
     for piece, _ in rows:
         done.append(twin_of(piece, popped(done, len(grounds_of(piece))), wish))

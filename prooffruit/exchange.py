@@ -4,7 +4,7 @@ from prooffruit.grounds import closed_words, grounds_of, parts_of
 from prooffruit.order import popped
 from prooffruit.pieces import changed
 from prooffruit.sayings import names_in
-from prooffruit.wording import word_at
+from prooffruit.wording import Words
 
 # The parts in which names stand.
 WORDED = ("term", "saying", "body")
@@ -63,19 +63,13 @@ class Exchange:
 
     def __init__(self, names, labels, used):
         self.shunned = {"name": names, "label": labels}
-        self.used = used
-        self.tried = 0
+        self.words = Words(used)
 
     def closed(self, part, what):
         """A part of a piece that closes it if it is a name or label: another one for a shunned one."""
         if what not in self.shunned or part not in self.shunned[what]:
             return part
-        other = part
-        # What is shunned is used; and of all that was tried each word is used, or was told ahead.
-        while other in self.used:
-            other = word_at(self.tried)
-            self.tried += 1
-        return other
+        return self.words.fresh()
 
 
 def renamed(thing, names):

@@ -7,6 +7,7 @@ from prooffruit.grounds import is_plain
 from prooffruit.judge import grounded
 from prooffruit.sayings import names_in, put_in
 from prooffruit.wishes import Wish, closing
+from prooffruit.wording import Words
 
 
 def is_freeable(saying):
@@ -20,7 +21,7 @@ def is_freeable(saying):
 
 def wish_shown(wish):
     """A ground of it that for all numbers the wish, a some, comes of what it says of them, doubled."""
-    term = ("name", wish.word())
+    term = wish.fresh_name()
     equation = put_in(wish.saying[1], term)
     given = wish.given(equation)
     rule = wish.given(wish.doubled(equation))
@@ -35,11 +36,10 @@ def at_term(ground, term):
 
 def freed_of(ground, saying):
     """A plain ground without givens of a saying that can be freed, by one by contraries."""
-    # This wish is there for the words alone: what is wished for speaks of the names that it tells.
-    words = Wish(saying, words_of(ground))
+    words = Words(words_of(ground))
     names = []
     while saying[0] == "all":
-        names.append(words.word())
+        names.append(words.fresh())
         ground = at_term(ground, ("name", names[-1]))
         saying = put_in(saying[1], ("name", names[-1]))
     shown = wish_shown(Wish(saying, {name: True for name in names}))

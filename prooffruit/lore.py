@@ -72,11 +72,11 @@ def less():
     return ("for", X[1], ("for", N[1], ("climb", body, start, Y[1], "u", turn, N)))
 
 
-def divided(body, quotient, rest, equation, up):
-    """A ground of a body of numbers divided, by its quotient and its rest, and by grounds of what is so of them."""
+def divided(body, quotient, over, equation, up):
+    """A ground of a body of division, by the quotient, what is left over, and grounds of what is so of them."""
     inner = put_in(body[1], quotient)
-    shown = ("such", put_in(inner[1], rest)[2][1], up[0], up[1])
-    return ("such", body[1], quotient, ("such", inner[1], rest, ("both", equation, shown)))
+    shown = ("such", put_in(inner[1], over)[2][1], up[0], up[1])
+    return ("such", body[1], quotient, ("such", inner[1], over, ("both", equation, shown)))
 
 
 def rest_of_nought(body):

@@ -1,36 +1,30 @@
-"""Sayings doubled by a wish, and the grounds of these: by ways that lead to the wish, or by grounds of what was doubled.
+"""Sayings doubled by a wish, and grounds of these: by ways that lead to the wish, or by grounds of what was doubled.
 
-In a saying doubled no and or some is left that isn't led to the wish; so whatever shows it may itself go by the wish.
+In a saying doubled each equation, or and some is led to the wish: so whatever shows it may itself go by the wish.
 """
 
 from prooffruit.kinds import sayings_of
 from prooffruit.sayings import put_in
-from prooffruit.wording import word_at
+from prooffruit.wording import Words
 
 FIRST = ("first", (), ())
 SECOND = ("second", (), ())
 
 
 class Wish:
-    """A saying by which others are doubled, with the words that mustn't come to close anything more."""
+    """A saying by which others are doubled, with words that may come to close more: those that aren't used."""
 
     def __init__(self, saying, used):
         self.saying = saying
-        self.used = used
-        self.tried = 0
+        self.words = Words(used)
 
-    def word(self):
-        """A word that isn't used yet, each time another one."""
-        word = word_at(self.tried)
-        while word in self.used:
-            self.tried += 1
-            word = word_at(self.tried)
-        self.tried += 1
-        return word
+    def fresh_name(self):
+        """A name that isn't used yet, as a term."""
+        return ("name", self.words.fresh())
 
     def given(self, saying):
         """A given of a saying, by a label that isn't used yet."""
-        return ("given", self.word(), saying)
+        return ("given", self.words.fresh(), saying)
 
     def doubled(self, saying):
         """A saying doubled by this wish."""
@@ -58,8 +52,8 @@ def closing(given, ground):
 
 def carried(ground, steps):
     """What comes of a ground by steps: each a word, with what stands ahead of the ground and what behind it."""
-    for word, ahead, behind in steps:
-        ground = (word, *ahead, ground, *behind)
+    for word, ahead, after in steps:
+        ground = (word, *ahead, ground, *after)
     return ground
 
 
@@ -82,7 +76,7 @@ def reached(saying, wish, steps, make):
         left = reached(saying[1], wish, steps + [FIRST], make)
         return ("both", left, reached(saying[2], wish, steps + [SECOND], make))
     if word == "all":
-        term = ("name", wish.word())
+        term = wish.fresh_name()
         inner = put_in(saying[1], term)
         return ("for", term[1], reached(inner, wish, steps + [("at", (), (term,))], make))
     given = wish.given(wish.doubled(saying)[1])
@@ -145,7 +139,7 @@ def lifted_from(saying, ground, wish, firsts):
         left = lifted_from(saying[1], ("first", ground), wish, firsts)
         return ("both", left, lifted_from(saying[2], ("second", ground), wish, firsts))
     if word == "all":
-        term = ("name", wish.word())
+        term = wish.fresh_name()
         return ("for", term[1], lifted_from(put_in(saying[1], term), ("at", ground, term), wish, firsts))
     if word == "if":
         plain = wish.given(saying[1])
@@ -170,7 +164,7 @@ def wished(saying, ground, wish, rule):
     if saying[0] == "same":
         return ("uses", rule, ground)
     if saying[0] == "some":
-        term = ("name", wish.word())
+        term = wish.fresh_name()
         given = wish.given(put_in(saying[1], term))
         return ("open", ground, term[1], given[1], ("uses", ("at", rule, term), lifted(given[2], given, wish)))
     left = wish.given(saying[1])

@@ -24,10 +24,26 @@ INTERFACE = {
         "open_names": ["ground"], "alike": ["one", "other"], "named": ["ground", "name", "term"],
         "supplied": ["ground", "label", "other"],
     },
+    "detours": {"detours": ["ground"], "without": ["ground", "place"]},
+    "straight": {"straight": ["ground", "limit"]},
+    "doubled": {"doubled": ["saying", "wish"], "stable": ["saying", "wish"], "doubled_ground": ["ground", "wish"]},
+    "freed": {"freed": ["ground"]},
+    "texts": {"written": ["tree"], "read": ["text"]},
+    "lore": {"lore": []},
+}
+
+# The classes of the interface, with the methods that stand in each itself.
+CLASSES = {
+    ("book", "Book"): {
+        "keep": ["name", "ground"], "mend": ["name", "ground"], "drop": ["name"], "back": [], "listed": [],
+        "says": ["name"], "handed": ["name"], "basis": ["name"], "opened": ["name"], "__len__": [],
+    },
+    ("desk", "Desk"): {"say": ["row"]},
 }
 
 # What is handed in by name alone, and what it is if nothing is said.
-BY_NAME_ALONE = {("runs", "run"): {"limit": 20000}, ("settled", "sought"): {"most": 10}}
+BY_NAME_ALONE = {("runs", "run"): {"limit": 20000}, ("settled", "sought"): {"most": 10},
+                 ("straight", "straight"): {"limit": 200}}
 
 
 def files():
@@ -43,6 +59,16 @@ class Interface(unittest.TestCase):
                 self.assertTrue(inspect.isfunction(told), word)
                 self.assertEqual(told.__module__, "prooffruit." + file)
                 self.assertEqual(list(inspect.signature(told).parameters), arguments, word)
+
+    def test_methods_stand_in_their_classes(self):
+        for (file, word), methods in CLASSES.items():
+            told = getattr(importlib.import_module("prooffruit." + file), word)
+            self.assertTrue(inspect.isclass(told), word)
+            self.assertEqual(told.__module__, "prooffruit." + file)
+            self.assertEqual(list(inspect.signature(told).parameters), [], word)
+            for method, arguments in methods.items():
+                self.assertIn(method, vars(told))
+                self.assertEqual(list(inspect.signature(vars(told)[method]).parameters), ["self", *arguments], method)
 
     def test_what_is_handed_in_by_name_alone(self):
         for file, functions in INTERFACE.items():

@@ -198,7 +198,8 @@ class Names(unittest.TestCase):
     def test_of_sayings_and_bodies(self):
         for thing, names in [
             (NO, []), (TRUE, []), (("same", Y, X), ["x", "y"]), (("all", ("same", B0, ("next", Y))), ["y"]),
-            (("same", B0, X), ["x"]), (("and", ("same", X, Y), ("if", ("same", ("name", "a"), X), NO)), ["a", "x", "y"]),
+            (("same", B0, X), ["x"]),
+            (("and", ("same", X, Y), ("if", ("same", ("name", "a"), X), NO)), ["a", "x", "y"]),
             (("all", ("some", ("same", B0, B1))), []), (("or", ("same", X, X), ("some", ("same", X, X))), ["x"]),
         ]:
             self.assertEqual(names_in(thing), names, thing)
