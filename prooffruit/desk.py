@@ -64,24 +64,36 @@ def answer_runs(book, words):
     return worth_text(run(program, {}))
 
 
-# What each word is answered by, and what stands behind it: a name or nothing, then what is told here.
+# What a row is answered by, by its first word.
 ANSWERS = {
-    "keep": (answer_keep, "name", "text"),
-    "mend": (answer_mend, "name", "text"),
-    "drop": (answer_drop, "name", "nothing"),
-    "back": (answer_back, "nothing", "nothing"),
-    "names": (answer_names, "nothing", "nothing"),
-    "says": (answer_says, "name", "nothing"),
-    "yields": (answer_yields, "name", "nothing"),
-    "runs": (answer_runs, "name", "numbers"),
+    "keep": answer_keep,
+    "mend": answer_mend,
+    "drop": answer_drop,
+    "back": answer_back,
+    "names": answer_names,
+    "says": answer_says,
+    "yields": answer_yields,
+    "runs": answer_runs,
+}
+
+# What stands behind the first word: a name or nothing, and what stands behind that.
+BEHIND = {
+    "keep": ("name", "text"),
+    "mend": ("name", "text"),
+    "drop": ("name", "nothing"),
+    "back": ("nothing", "nothing"),
+    "names": ("nothing", "nothing"),
+    "says": ("name", "nothing"),
+    "yields": ("name", "nothing"),
+    "runs": ("name", "numbers"),
 }
 
 
 def is_row(words):
     """Whether words are those of a row that is answered."""
-    if words[0] not in ANSWERS:
+    if words[0] not in BEHIND:
         return False
-    _, first, rest = ANSWERS[words[0]]
+    first, rest = BEHIND[words[0]]
     behind = words[1:]
     if first == "name":
         if len(behind) == 0 or not is_word(behind[0]):
@@ -105,5 +117,5 @@ class Desk:
         words = row.split(" ")
         if not is_row(words):
             raise NoRow(row)
-        answer = ANSWERS[words[0]][0]
+        answer = ANSWERS[words[0]]
         return answer(self.book, words)

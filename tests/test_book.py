@@ -65,7 +65,7 @@ def within(ground):
     return 1 + max([within(part) for part in ground[1:] if isinstance(part, tuple) and part[0] in WORDS], default=0)
 
 
-WORDS = ("given", "both", "second", "put", "reckoned")
+WORDS = ("given", "both", "second", "put", "reckoned", "uses", "lets")
 
 
 def refusal(told, *things, **more):
@@ -404,6 +404,30 @@ class Opened(Books):
             self.assertEqual((within(told), grounded(told)), (100, (ONE_SAME, ())))
         self.refused(TooMany, {}, book.opened, "c")
         self.assertEqual(within(book.handed("c")), 42)
+
+    def test_closed_labels_that_are_kept_names(self):
+        book = self.book(a=wide(SAME, 900))
+        inner = wide(given("a", ONE_SAME), 20)
+        book.keep("b", by_second(("put", SAME, ("same", B0, ONE), (
+            "uses", ("lets", "a", ONE_SAME, inner), given("a", ONE_SAME)))))
+        told = book.opened("b")
+        self.assertEqual(told[1][2][3], ("uses", ("lets", "a", ONE_SAME, inner), wide(SAME, 900)))
+        self.assertEqual(grounded(told), (ONE_SAME, ()))
+        book.keep("c", wider(given("a", ONE_SAME), ("uses", ("lets", "b", ONE_SAME, given("b", ONE_SAME)), SAME)))
+        self.assertEqual(grounded(book.opened("c")), (ONE_SAME, ()))
+
+    def test_each_on_the_next_two(self):
+        start = time.monotonic()
+        book = self.book(a=SAME, b=SAME)
+        names = ["a", "b"]
+        for first in "ab":
+            for second in "cdefghijklmnopqrstuvwxyz":
+                names.append(first + second)
+                book.keep(names[-1], wider(given(names[-2], ONE_SAME), given(names[-3], ONE_SAME)))
+        self.assertEqual(pieces(book.opened("ad")), 5)
+        for name in names[20:]:
+            self.refused(TooMany, {}, book.opened, name)
+        self.assertLess(time.monotonic() - start, 20)
 
     def test_four_hundred_in_a_row(self):
         start = time.monotonic()

@@ -227,6 +227,8 @@ class OfGrounds(unittest.TestCase):
             self.check(("both", given("a", A), ("for", "a", ("both", ("equal", ("name", "a")), given("b", B)))), W)
             # A closed name may be one of the wish's: it is closed, so it isn't that one.
             self.check(ground, ("same", name, NOUGHT))
+            self.check(ground, ("same", ("plus", name, ("name", "a")), ("plus", ("name", "b"), ("name", "c"))))
+            self.check(("for", "y", ("for", word, ("both", P, ("equal", name)))), ("same", name, ("name", "a")))
 
     def test_by_chance(self):
         for seed in range(150):

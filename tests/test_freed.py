@@ -218,6 +218,19 @@ class ByGrounds(Freed):
         self.check(("for", "x", ("first", pair)))
         self.check(("for", "x", ("second", pair)))
 
+    def test_great_plain_parts(self):
+        # What doesn't go by contraries isn't made greater: so what comes can still be handed in.
+        row = [halves(X)] * 20
+        while len(row) > 1:
+            row = [("both", row[k], row[k + 1]) for k in range(0, len(row) - 1, 2)] + row[len(row) - len(row) % 2:]
+        ground = ("for", "x", ("cases", either_or_not(("same", X, num(3))), "p", by_contraries(SELF, "k"), "q", (
+            "first", ("both", SELF, row[0]))))
+        self.check(ground)
+        deep = SELF
+        for _ in range(70):
+            deep = ("put", ("equal", X), ("some", ("same", B0, X)), deep)
+        self.check(("for", "x", by_contraries(deep)))
+
     def test_names_and_labels_of_eight_letters(self):
         name = ("name", "abcdefgh")
         ground = ("for", "abcdefgh", by_contraries(shown(name, name), "zzzzzzzz"))
