@@ -143,12 +143,12 @@ TWINS = {
 
 def labels_of(piece, inner):
     """The labels of the open givens of a ground, by those of its grounds: a dict of True."""
-    labels = {piece[1]: True} if piece[0] == "given" else {}
+    found = {piece[1]: True} if piece[0] == "given" else {}
     for part, (_, closed) in zip(inner, closed_words(piece)):
         for label in part.labels:
             if label != closed:
-                labels[label] = True
-    return labels
+                found[label] = True
+    return found
 
 
 def twin_of(piece, inner, wish):

@@ -2,12 +2,14 @@
 
 from prooffruit.doubled import ground_doubled
 from prooffruit.errors import NoGround
-from prooffruit.exchange import with_term, words_of
+from prooffruit.exchange import open_names_of, with_term, words_of
 from prooffruit.grounds import is_plain
 from prooffruit.judge import grounded
 from prooffruit.sayings import names_in, put_in
 from prooffruit.wishes import Wish, closing
 from prooffruit.wording import Words
+
+NOUGHT = ("num", 0)
 
 
 def is_freeable(saying):
@@ -56,4 +58,7 @@ def freed(ground):
         raise NoGround((), "given")
     if not is_freeable(saying):
         raise NoGround((), "saying")
+    # A name that is open though it isn't seen in the saying stands for no number: any will do.
+    for name in open_names_of(ground):
+        ground = with_term(ground, name, NOUGHT)
     return ground if is_plain(ground) else freed_of(ground, saying)

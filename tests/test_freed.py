@@ -289,9 +289,15 @@ class Refusals(unittest.TestCase):
         self.assertEqual(self.refused(by_contraries(SELF)), ((), "saying"))
         self.assertEqual(self.refused(("for", "x", SAME_SUM)), ((), "saying"))
         # A name that doesn't stand in the saying is let by.
-        told = freed(by_contraries(("second", ("both", ("equal", Y), shown(ONE, ONE)))))
-        self.assertEqual(grounded(told), (("some", ("same", B0, ONE)), ()))
-        self.assertIs(is_plain(told), True)
+        for ground in [("second", ("both", ("equal", Y), shown(ONE, ONE))), ("such", ("same", B0, B0), Y, ("equal", Y)),
+                       ("for", "z", ("such", ("same", B0, B0), ("plus", Y, Z), ("equal", ("plus", Y, Z))))]:
+            for whole in (ground, by_contraries(ground), ("second", ("both", ("equal", X), by_contraries(ground)))):
+                told = freed(whole)
+                self.assertEqual(grounded(told), (grounded(ground)[0], ()))
+                self.assertIs(is_plain(told), True)
+                program = yielded(told) if ground[0] != "for" else ("call", yielded(told), num(3))
+                self.assertIsInstance(run(program, {}), int)
+                self.assertIsInstance(run(program, {"x": 2, "y": 5}), int)
 
     def test_two_at_once(self):
         wrong = ("uses", given("u", A), given("v", A))
